@@ -7,6 +7,7 @@ import (
 
 	"shunting/api"
 	"shunting/store"
+	"shunting/trial"
 )
 
 // take and give are calls; a Take's Val has no say.
@@ -27,31 +28,6 @@ func swapFree(old, w uint64) api.Access {
 	return api.Access{Do: api.Swap, Area: api.Free, Old: old, New: w}
 }
 
-// did is the step of a thread that did a, and was told was and done.
-func did(thread int, a api.Access, was uint64, done bool) api.Step {
-	return api.Step{Thread: thread, Access: a, Was: was, Done: done}
-}
-
-// picked are picks of these threads, each with a draw of its own.
-func picked(threads ...int) (l []api.Pick) {
-	for i, thread := range threads {
-		l = append(l, api.Pick{Thread: thread, Draw: uint32(100 + i)})
-	}
-	return l
-}
-
-// sameMem: have both the same words? (A list without elements may be nil or empty.)
-func sameMem(m, n api.Mem) bool {
-	return m.Epoch == n.Epoch && m.Free == n.Free && m.Head == n.Head && m.Tail == n.Tail &&
-		slices.Equal(m.Limbo, n.Limbo) && slices.Equal(m.Pins, n.Pins) &&
-		slices.Equal(m.Link, n.Link) && slices.Equal(m.Next, n.Next) && slices.Equal(m.Slots, n.Slots)
-}
-
-// same: are both the same trace?
-func same(x, y api.Trace) bool {
-	return slices.Equal(x.Steps, y.Steps) && slices.Equal(x.Calls, y.Calls) && sameMem(x.End, y.End)
-}
-
 // config is one of a kind, with segments of one slot.
 func config(kind, threads, segments int) api.Config {
 	return api.Config{Kind: kind, K: 1, T: threads, M: segments}
@@ -65,18 +41,18 @@ func told(t *testing.T, c api.Config, l [][]api.Op, picks []api.Pick, steps []ap
 		t.Fatalf("what is told can't be: %v", steps)
 	}
 	x, e := Run(c, l, picks)
-	if e != api.OK || !same(x, api.Trace{Steps: steps, Calls: calls, End: end}) {
+	if e != api.OK || !trial.Same(x, api.Trace{Steps: steps, Calls: calls, End: end}) {
 		t.Errorf("%+v %v, not %+v %+v", x, e, steps, calls)
 	}
 }
 
 // P4.1 and P4.2: segments are taken from the first free one on, until there is none.
 func TestTake(t *testing.T) {
-	told(t, config(api.Stack, 1, 2), [][]api.Op{{take(0), take(7), take(math.MaxUint32)}}, picked(0, 0, 0, 0, 0, 0, 0, 0),
+	told(t, config(api.Stack, 1, 2), [][]api.Op{{take(0), take(7), take(math.MaxUint32)}}, trial.Picked(0, 0, 0, 0, 0, 0, 0, 0),
 		[]api.Step{
-			did(0, readFree(), 1, false), did(0, readLink(0), 2, false), did(0, swapFree(1, 0x100000002), 1, true),
-			did(0, readFree(), 0x100000002, false), did(0, readLink(1), 0, false), did(0, swapFree(0x100000002, 0x200000000), 0x100000002, true),
-			did(0, readFree(), 0x200000000, false),
+			trial.Did(0, readFree(), 1, false), trial.Did(0, readLink(0), 2, false), trial.Did(0, swapFree(1, 0x100000002), 1, true),
+			trial.Did(0, readFree(), 0x100000002, false), trial.Did(0, readLink(1), 0, false), trial.Did(0, swapFree(0x100000002, 0x200000000), 0x100000002, true),
+			trial.Did(0, readFree(), 0x200000000, false),
 		},
 		[]api.Call{
 			{Kind: api.Take, From: 0, To: 2, Out: 0},
@@ -87,12 +63,12 @@ func TestTake(t *testing.T) {
 
 // P4.1 and P4.2: segments are given back, and taken again, the last one first.
 func TestGive(t *testing.T) {
-	told(t, config(api.Queue, 1, 2), [][]api.Op{{take(0), give(1), give(2), take(0)}}, picked(0, 0, 0, 0, 0, 0, 0, 0, 0, 0, 0, 0, 0),
+	told(t, config(api.Queue, 1, 2), [][]api.Op{{take(0), give(1), give(2), take(0)}}, trial.Picked(0, 0, 0, 0, 0, 0, 0, 0, 0, 0, 0, 0, 0),
 		[]api.Step{
-			did(0, readFree(), 2, false), did(0, readLink(1), 0, false), did(0, swapFree(2, 0x100000000), 2, true),
-			did(0, readFree(), 0x100000000, false), did(0, writeLink(1, 0), 0, true), did(0, swapFree(0x100000000, 0x200000002), 0x100000000, true),
-			did(0, readFree(), 0x200000002, false), did(0, writeLink(0, 2), 0, true), did(0, swapFree(0x200000002, 0x300000001), 0x200000002, true),
-			did(0, readFree(), 0x300000001, false), did(0, readLink(0), 2, false), did(0, swapFree(0x300000001, 0x400000002), 0x300000001, true),
+			trial.Did(0, readFree(), 2, false), trial.Did(0, readLink(1), 0, false), trial.Did(0, swapFree(2, 0x100000000), 2, true),
+			trial.Did(0, readFree(), 0x100000000, false), trial.Did(0, writeLink(1, 0), 0, true), trial.Did(0, swapFree(0x100000000, 0x200000002), 0x100000000, true),
+			trial.Did(0, readFree(), 0x200000002, false), trial.Did(0, writeLink(0, 2), 0, true), trial.Did(0, swapFree(0x200000002, 0x300000001), 0x200000002, true),
+			trial.Did(0, readFree(), 0x300000001, false), trial.Did(0, readLink(0), 2, false), trial.Did(0, swapFree(0x300000001, 0x400000002), 0x300000001, true),
 		},
 		[]api.Call{
 			{Kind: api.Take, From: 0, To: 2, Out: 1},
@@ -104,13 +80,13 @@ func TestGive(t *testing.T) {
 
 // P4.1: a Take that loses a race begins anew, as often as it does, and comes out with what is there then; here at last nothing.
 func TestTakeLoses(t *testing.T) {
-	told(t, config(api.Stack, 2, 2), [][]api.Op{{take(0)}, {take(0), take(0)}}, picked(0, 0, 1, 1, 1, 0, 0, 0, 1, 1, 1, 0, 0, 0),
+	told(t, config(api.Stack, 2, 2), [][]api.Op{{take(0)}, {take(0), take(0)}}, trial.Picked(0, 0, 1, 1, 1, 0, 0, 0, 1, 1, 1, 0, 0, 0),
 		[]api.Step{
-			did(0, readFree(), 1, false), did(0, readLink(0), 2, false),
-			did(1, readFree(), 1, false), did(1, readLink(0), 2, false), did(1, swapFree(1, 0x100000002), 1, true),
-			did(0, swapFree(1, 0x100000002), 0x100000002, false), did(0, readFree(), 0x100000002, false), did(0, readLink(1), 0, false),
-			did(1, readFree(), 0x100000002, false), did(1, readLink(1), 0, false), did(1, swapFree(0x100000002, 0x200000000), 0x100000002, true),
-			did(0, swapFree(0x100000002, 0x200000000), 0x200000000, false), did(0, readFree(), 0x200000000, false),
+			trial.Did(0, readFree(), 1, false), trial.Did(0, readLink(0), 2, false),
+			trial.Did(1, readFree(), 1, false), trial.Did(1, readLink(0), 2, false), trial.Did(1, swapFree(1, 0x100000002), 1, true),
+			trial.Did(0, swapFree(1, 0x100000002), 0x100000002, false), trial.Did(0, readFree(), 0x100000002, false), trial.Did(0, readLink(1), 0, false),
+			trial.Did(1, readFree(), 0x100000002, false), trial.Did(1, readLink(1), 0, false), trial.Did(1, swapFree(0x100000002, 0x200000000), 0x100000002, true),
+			trial.Did(0, swapFree(0x100000002, 0x200000000), 0x200000000, false), trial.Did(0, readFree(), 0x200000000, false),
 		},
 		[]api.Call{
 			{Thread: 0, Kind: api.Take, From: 0, To: 12, Code: api.NoMem},
@@ -121,13 +97,13 @@ func TestTakeLoses(t *testing.T) {
 
 // P4.1: a Give that loses a race begins anew, and writes the link anew.
 func TestGiveLoses(t *testing.T) {
-	told(t, config(api.Stack, 2, 3), [][]api.Op{{take(0), give(0)}, {take(0)}}, picked(0, 0, 0, 0, 0, 1, 1, 1, 0, 0, 0, 0, 0),
+	told(t, config(api.Stack, 2, 3), [][]api.Op{{take(0), give(0)}, {take(0)}}, trial.Picked(0, 0, 0, 0, 0, 1, 1, 1, 0, 0, 0, 0, 0),
 		[]api.Step{
-			did(0, readFree(), 1, false), did(0, readLink(0), 2, false), did(0, swapFree(1, 0x100000002), 1, true),
-			did(0, readFree(), 0x100000002, false), did(0, writeLink(0, 2), 2, true),
-			did(1, readFree(), 0x100000002, false), did(1, readLink(1), 3, false), did(1, swapFree(0x100000002, 0x200000003), 0x100000002, true),
-			did(0, swapFree(0x100000002, 0x200000001), 0x200000003, false),
-			did(0, readFree(), 0x200000003, false), did(0, writeLink(0, 3), 2, true), did(0, swapFree(0x200000003, 0x300000001), 0x200000003, true),
+			trial.Did(0, readFree(), 1, false), trial.Did(0, readLink(0), 2, false), trial.Did(0, swapFree(1, 0x100000002), 1, true),
+			trial.Did(0, readFree(), 0x100000002, false), trial.Did(0, writeLink(0, 2), 2, true),
+			trial.Did(1, readFree(), 0x100000002, false), trial.Did(1, readLink(1), 3, false), trial.Did(1, swapFree(0x100000002, 0x200000003), 0x100000002, true),
+			trial.Did(0, swapFree(0x100000002, 0x200000001), 0x200000003, false),
+			trial.Did(0, readFree(), 0x200000003, false), trial.Did(0, writeLink(0, 3), 2, true), trial.Did(0, swapFree(0x200000003, 0x300000001), 0x200000003, true),
 		},
 		[]api.Call{
 			{Thread: 0, Kind: api.Take, From: 0, To: 2, Out: 0},
@@ -138,14 +114,14 @@ func TestGiveLoses(t *testing.T) {
 
 // P4.1 and P4.3: the list comes back to the same first segment, while a Take stands ahead of its Swap: the tag is another one, so that Take doesn't lead the list to a segment that is taken.
 func TestTakeComesBack(t *testing.T) {
-	told(t, config(api.Stack, 2, 3), [][]api.Op{{take(0)}, {take(0), take(0), give(0)}}, picked(0, 0, 1, 1, 1, 1, 1, 1, 1, 1, 1, 0, 0, 0, 0),
+	told(t, config(api.Stack, 2, 3), [][]api.Op{{take(0)}, {take(0), take(0), give(0)}}, trial.Picked(0, 0, 1, 1, 1, 1, 1, 1, 1, 1, 1, 0, 0, 0, 0),
 		[]api.Step{
-			did(0, readFree(), 1, false), did(0, readLink(0), 2, false),
-			did(1, readFree(), 1, false), did(1, readLink(0), 2, false), did(1, swapFree(1, 0x100000002), 1, true),
-			did(1, readFree(), 0x100000002, false), did(1, readLink(1), 3, false), did(1, swapFree(0x100000002, 0x200000003), 0x100000002, true),
-			did(1, readFree(), 0x200000003, false), did(1, writeLink(0, 3), 2, true), did(1, swapFree(0x200000003, 0x300000001), 0x200000003, true),
-			did(0, swapFree(1, 0x100000002), 0x300000001, false),
-			did(0, readFree(), 0x300000001, false), did(0, readLink(0), 3, false), did(0, swapFree(0x300000001, 0x400000003), 0x300000001, true),
+			trial.Did(0, readFree(), 1, false), trial.Did(0, readLink(0), 2, false),
+			trial.Did(1, readFree(), 1, false), trial.Did(1, readLink(0), 2, false), trial.Did(1, swapFree(1, 0x100000002), 1, true),
+			trial.Did(1, readFree(), 0x100000002, false), trial.Did(1, readLink(1), 3, false), trial.Did(1, swapFree(0x100000002, 0x200000003), 0x100000002, true),
+			trial.Did(1, readFree(), 0x200000003, false), trial.Did(1, writeLink(0, 3), 2, true), trial.Did(1, swapFree(0x200000003, 0x300000001), 0x200000003, true),
+			trial.Did(0, swapFree(1, 0x100000002), 0x300000001, false),
+			trial.Did(0, readFree(), 0x300000001, false), trial.Did(0, readLink(0), 3, false), trial.Did(0, swapFree(0x300000001, 0x400000003), 0x300000001, true),
 		},
 		[]api.Call{
 			{Thread: 0, Kind: api.Take, From: 0, To: 14, Out: 0},
@@ -157,12 +133,12 @@ func TestTakeComesBack(t *testing.T) {
 
 // P4.2: of a Ring nothing is free, till it is given back.
 func TestRing(t *testing.T) {
-	told(t, config(api.Ring, 1, 3), [][]api.Op{{take(0), give(2), take(0), take(0)}}, picked(0, 0, 0, 0, 0, 0, 0, 0),
+	told(t, config(api.Ring, 1, 3), [][]api.Op{{take(0), give(2), take(0), take(0)}}, trial.Picked(0, 0, 0, 0, 0, 0, 0, 0),
 		[]api.Step{
-			did(0, readFree(), 0, false),
-			did(0, readFree(), 0, false), did(0, writeLink(2, 0), 0, true), did(0, swapFree(0, 0x100000003), 0, true),
-			did(0, readFree(), 0x100000003, false), did(0, readLink(2), 0, false), did(0, swapFree(0x100000003, 0x200000000), 0x100000003, true),
-			did(0, readFree(), 0x200000000, false),
+			trial.Did(0, readFree(), 0, false),
+			trial.Did(0, readFree(), 0, false), trial.Did(0, writeLink(2, 0), 0, true), trial.Did(0, swapFree(0, 0x100000003), 0, true),
+			trial.Did(0, readFree(), 0x100000003, false), trial.Did(0, readLink(2), 0, false), trial.Did(0, swapFree(0x100000003, 0x200000000), 0x100000003, true),
+			trial.Did(0, readFree(), 0x200000000, false),
 		},
 		[]api.Call{
 			{Kind: api.Take, From: 0, To: 0, Code: api.NoMem},
@@ -175,7 +151,7 @@ func TestRing(t *testing.T) {
 // P4.2: what is given back twice leads to itself, and is taken as often as it is asked for.
 func TestGiveTwice(t *testing.T) {
 	c := config(api.Stack, 1, 2)
-	x, e := Run(c, [][]api.Op{{give(0), take(0), take(0), take(0)}}, picked(0, 0, 0, 0, 0, 0, 0, 0, 0, 0, 0, 0))
+	x, e := Run(c, [][]api.Op{{give(0), take(0), take(0), take(0)}}, trial.Picked(0, 0, 0, 0, 0, 0, 0, 0, 0, 0, 0, 0))
 	if e != api.OK || len(x.Calls) != 4 || x.End.Free != 0x400000001 || x.End.Link[0] != 1 {
 		t.Fatalf("%+v %v", x, e)
 	}
@@ -192,11 +168,11 @@ func TestGiveModulo(t *testing.T) {
 		for _, val := range []uint32{0, 1, 2, 3, 6, 7, 62, 63, 64, 65, 1000, 1<<31 - 1, 1 << 31, 1<<31 + 1, math.MaxUint32 - 1, math.MaxUint32} {
 			c := config(api.Stack, 1, segments)
 			h := int(uint64(val) % uint64(segments))
-			told(t, c, [][]api.Op{{give(val)}}, picked(0, 0, 0),
+			told(t, c, [][]api.Op{{give(val)}}, trial.Picked(0, 0, 0),
 				[]api.Step{
-					did(0, readFree(), 1, false),
-					did(0, writeLink(h, 1), uint64(h+2)%uint64(segments+1), true),
-					did(0, swapFree(1, 1<<32+uint64(h+1)), 1, true),
+					trial.Did(0, readFree(), 1, false),
+					trial.Did(0, writeLink(h, 1), uint64(h+2)%uint64(segments+1), true),
+					trial.Did(0, swapFree(1, 1<<32+uint64(h+1)), 1, true),
 				},
 				[]api.Call{{Kind: api.Give, Val: val, From: 0, To: 2}})
 		}
@@ -207,11 +183,11 @@ func TestGiveModulo(t *testing.T) {
 func TestNotOver(t *testing.T) {
 	c := config(api.Queue, 2, 3)
 	l := [][]api.Op{{take(3), take(4)}, {give(1), give(2)}}
-	told(t, c, l, picked(1, 0, -1, 2, 0),
-		[]api.Step{did(1, readFree(), 2, false), did(0, readFree(), 2, false), did(0, readLink(1), 3, false)},
+	told(t, c, l, trial.Picked(1, 0, -1, 2, 0),
+		[]api.Step{trial.Did(1, readFree(), 2, false), trial.Did(0, readFree(), 2, false), trial.Did(0, readLink(1), 3, false)},
 		[]api.Call{{Thread: 1, Kind: api.Give, Val: 1, From: 0, To: -1}, {Thread: 0, Kind: api.Take, Val: 3, From: 1, To: -1}})
 	told(t, c, l, nil, nil, nil)
-	told(t, c, [][]api.Op{nil, {}}, picked(0, 1, 0), nil, nil)
+	told(t, c, [][]api.Op{nil, {}}, trial.Picked(0, 1, 0), nil, nil)
 }
 
 // P4.2: as many segments as may be are there, and no more.
@@ -250,7 +226,7 @@ func TestMost(t *testing.T) {
 	for i := range picks {
 		picks[i] = api.Pick{Thread: i * 7 / 2 % 9, Draw: uint32(i)}
 	}
-	if x, e := Run(c, l, picks); e != api.OK || !same(x, expected(c, l, picks)) {
+	if x, e := Run(c, l, picks); e != api.OK || !trial.Same(x, expected(c, l, picks)) {
 		t.Errorf("%d steps, %d calls, %v", len(x.Steps), len(x.Calls), e)
 	}
 	nothing(t, "20001 picks", c, l, append(slices.Clone(picks), api.Pick{Thread: -1}))
@@ -264,7 +240,7 @@ func TestMost(t *testing.T) {
 // nothing holds a run against nothing, and Arg.
 func nothing(t *testing.T, what string, c api.Config, l [][]api.Op, picks []api.Pick) {
 	t.Helper()
-	if x, e := Run(c, l, picks); e != api.Arg || !same(x, api.Trace{}) {
+	if x, e := Run(c, l, picks); e != api.Arg || !trial.Same(x, api.Trace{}) {
 		t.Errorf("%s, %v, %d lists, %d picks: %+v %v", what, c, len(l), len(picks), x, e)
 	}
 }
@@ -280,7 +256,7 @@ func TestOtherKind(t *testing.T) {
 			{nil, {o, take(0)}},
 			{{take(0)}, {give(1), o, give(1)}},
 		} {
-			for _, picks := range [][]api.Pick{nil, picked(0), picked(0, 1, 0, 1, 0, 1, 0, 1)} {
+			for _, picks := range [][]api.Pick{nil, trial.Picked(0), trial.Picked(0, 1, 0, 1, 0, 1, 0, 1)} {
 				nothing(t, "another kind", config(api.Stack, 2, 2), l, picks)
 			}
 		}
@@ -294,19 +270,19 @@ func TestArg(t *testing.T) {
 	for _, n := range strange {
 		for _, c := range []api.Config{{Kind: n, K: 1, T: 2, M: 2}, {Kind: api.Stack, K: n, T: 2, M: 2}, {Kind: api.Queue, K: 1, T: n, M: 2}, {Kind: api.Stack, K: 1, T: 2, M: n}} {
 			for lists := range 10 {
-				nothing(t, "a config", c, slices.Repeat([][]api.Op{calls}, lists), picked(0, 0, 1, 1))
-				nothing(t, "a config, no calls", c, make([][]api.Op, lists), picked(0, 0, 1, 1))
+				nothing(t, "a config", c, slices.Repeat([][]api.Op{calls}, lists), trial.Picked(0, 0, 1, 1))
+				nothing(t, "a config, no calls", c, make([][]api.Op, lists), trial.Picked(0, 0, 1, 1))
 			}
 		}
 	}
-	nothing(t, "a fourth kind", config(4, 1, 2), [][]api.Op{calls}, picked(0, 0))
-	nothing(t, "nine threads", config(api.Stack, 9, 2), slices.Repeat([][]api.Op{calls}, 9), picked(0, 0))
-	nothing(t, "one segment", config(api.Stack, 1, 1), [][]api.Op{calls}, picked(0, 0))
+	nothing(t, "a fourth kind", config(4, 1, 2), [][]api.Op{calls}, trial.Picked(0, 0))
+	nothing(t, "nine threads", config(api.Stack, 9, 2), slices.Repeat([][]api.Op{calls}, 9), trial.Picked(0, 0))
+	nothing(t, "one segment", config(api.Stack, 1, 1), [][]api.Op{calls}, trial.Picked(0, 0))
 	for threads := 1; threads <= 8; threads++ {
 		for lists := range 12 {
 			if lists != threads {
-				nothing(t, "the lists", config(api.Stack, threads, 2), slices.Repeat([][]api.Op{calls}, lists), picked(0, 0))
-				nothing(t, "the lists, no calls", config(api.Ring, threads, 2), make([][]api.Op, lists), picked(0, 0))
+				nothing(t, "the lists", config(api.Stack, threads, 2), slices.Repeat([][]api.Op{calls}, lists), trial.Picked(0, 0))
+				nothing(t, "the lists, no calls", config(api.Ring, threads, 2), make([][]api.Op, lists), trial.Picked(0, 0))
 			}
 		}
 	}
@@ -314,29 +290,8 @@ func TestArg(t *testing.T) {
 
 // Rule 3: what is handed in isn't changed, its spare room neither, and answers share nothing.
 func TestOwn(t *testing.T) {
-	c := config(api.Stack, 2, 2)
-	full := []api.Op{take(1), give(2), take(3), give(4)}
-	lists := func() [][]api.Op { return [][]api.Op{slices.Clone(full)[:2], slices.Clone(full)[:1], full[:1]} }
-	all, picks := lists(), picked(0, 1, 1, 0, 0, 1, 0, 1, 0, 0, 1)
-	l, k := all[:2], slices.Clone(picks)[:9]
-	want := expected(c, l, k)
-	for range 3 {
-		x, e := Run(c, l, k)
-		if e != api.OK || !same(x, want) {
-			t.Fatalf("%+v %v, not %+v", x, e, want)
-		}
-		clear(x.Steps)
-		clear(x.Calls)
-		for _, words := range [][]uint64{x.End.Limbo, x.End.Pins, x.End.Link, x.End.Next, x.End.Slots} {
-			clear(words)
-		}
-	}
-	for i, calls := range lists() {
-		if len(all[i]) != len(calls) || !slices.Equal(all[i][:cap(calls)], full) {
-			t.Errorf("the calls %d were changed: %v", i, all[i])
-		}
-	}
-	if !slices.Equal(k[:11], picks) {
-		t.Errorf("the picks were changed: %v, not %v", k[:11], picks)
+	n := trial.Input{Config: config(api.Stack, 2, 2), Calls: [][]api.Op{{take(1), give(2)}, {take(1)}}, Picks: trial.Picked(0, 1, 1, 0, 0, 1, 0, 1, 0)}
+	if s := trial.Meddles(Run, n, expected(n.Config, n.Calls, n.Picks)); s != "" {
+		t.Error(s)
 	}
 }

@@ -5,6 +5,7 @@ import (
 
 	"shunting/api"
 	"shunting/store"
+	"shunting/trial"
 )
 
 // place is where a thread stands in its call, as the chapter numbers it: line 0 is none.
@@ -84,14 +85,6 @@ func expected(c api.Config, l [][]api.Op, picks []api.Pick) (x api.Trace) {
 	return x
 }
 
-// mixed are numbers that a short rule makes, each one below n.
-func mixed(seed uint64) func(n int) int {
-	return func(n int) int {
-		seed = seed*6364136223846793005 + 1442695040888963407
-		return int(seed >> 33 % uint64(n))
-	}
-}
-
 // configs are some of each kind, with one thread, with two, and with more.
 func configs() (l []api.Config) {
 	for kind := api.Queue; kind <= api.Stack; kind++ {
@@ -113,7 +106,7 @@ func mixedPicks(next func(n int) int, threads, n int) []api.Pick {
 
 // P4.1 and P4.2: runs of all kinds, of any calls, also such as give back what wasn't taken.
 func TestRunMixed(t *testing.T) {
-	next := mixed(4)
+	next := trial.Mixed(4)
 	lost := 0
 	for _, c := range configs() {
 		for n := range 60 {
@@ -126,7 +119,7 @@ func TestRunMixed(t *testing.T) {
 			picks := mixedPicks(next, c.T, n*3)
 			want := expected(c, l, picks)
 			x, e := Run(c, l, picks)
-			if e != api.OK || !same(x, want) {
+			if e != api.OK || !trial.Same(x, want) {
 				t.Fatalf("%v %v %v: %+v %v, not %+v", c, l, picks, x, e, want)
 			}
 			for _, s := range x.Steps {
@@ -233,12 +226,12 @@ func owners(t *testing.T, c api.Config, x api.Trace) {
 
 // P4.3: whatever is picked, what is out isn't taken once more, and each segment is free or out.
 func TestTakenOnce(t *testing.T) {
-	h := holder{next: mixed(5)}
+	h := holder{next: trial.Mixed(5)}
 	for _, kind := range []int{api.Queue, api.Stack} {
 		for _, c := range []api.Config{config(kind, 2, 2), config(kind, 2, 3), config(kind, 3, 3), config(kind, 3, 4), config(kind, 8, 5)} {
 			for range 20 {
 				x, picks := h.plays(c, 70)
-				if !same(x, expected(c, h.lists, picks)) {
+				if !trial.Same(x, expected(c, h.lists, picks)) {
 					t.Fatalf("%v %v %v: %+v", c, h.lists, picks, x)
 				}
 				owners(t, c, x)

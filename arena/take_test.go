@@ -6,6 +6,7 @@ import (
 	"shunting/api"
 	"shunting/drive"
 	"shunting/store"
+	"shunting/trial"
 )
 
 // does answers words of three segments, with this Free and this link of the first one, what does accesses to them, and how many it did.
@@ -90,7 +91,7 @@ func TestTakeWithin(t *testing.T) {
 		})
 	}
 	c := config(api.Stack, 1, 2)
-	x, e := drive.Run(c, [][]api.Op{{{}}}, picked(0, 0, 0, 0, 0, 0, 0, 0), begin)
+	x, e := drive.Run(c, [][]api.Op{{{}}}, trial.Picked(0, 0, 0, 0, 0, 0, 0, 0), begin)
 	if e != api.OK || len(x.Steps) != 8 || len(x.Calls) != 1 || x.Calls[0] != (api.Call{From: 0, To: 7, Out: 3}) || x.End.Free != 0x200000001 || x.End.Link[0] != 0x300000002 {
 		t.Errorf("%+v %v", x, e)
 	}

@@ -7,6 +7,7 @@ import (
 
 	"shunting/api"
 	"shunting/store"
+	"shunting/trial"
 )
 
 // The layers above are built on these calls, so they are held to the chapter's signatures from the first stage on.
@@ -26,33 +27,8 @@ func TestSignatures(t *testing.T) {
 	var _ func(api.Config, [][]api.Access, []api.Pick) (api.Trace, api.Code) = Raw
 }
 
-// sameMem: have both the same words? (A list without elements may be nil or empty.)
-func sameMem(m, n api.Mem) bool {
-	return m.Epoch == n.Epoch && m.Free == n.Free && m.Head == n.Head && m.Tail == n.Tail &&
-		slices.Equal(m.Limbo, n.Limbo) && slices.Equal(m.Pins, n.Pins) &&
-		slices.Equal(m.Link, n.Link) && slices.Equal(m.Next, n.Next) && slices.Equal(m.Slots, n.Slots)
-}
-
-// same: are both the same trace?
-func same(x, y api.Trace) bool {
-	return slices.Equal(x.Steps, y.Steps) && slices.Equal(x.Calls, y.Calls) && sameMem(x.End, y.End)
-}
-
 // pick is a pick of a thread, with a draw.
 func pick(thread int, draw uint32) api.Pick { return api.Pick{Thread: thread, Draw: draw} }
-
-// did is the step of a thread that did a, and was told was and done.
-func did(thread int, a api.Access, was uint64, done bool) api.Step {
-	return api.Step{Thread: thread, Access: a, Was: was, Done: done}
-}
-
-// picked are picks of these threads, each with a draw of its own.
-func picked(threads ...int) (l []api.Pick) {
-	for i, thread := range threads {
-		l = append(l, api.Pick{Thread: thread, Draw: uint32(100 + i)})
-	}
-	return l
-}
 
 // strange are numbers that no thread, and none of a config's numbers, has, though some would be one if they were cut to fewer bits.
 func strange() []int {
@@ -216,14 +192,6 @@ func ways(f plan) map[string]func(thread int, o api.Op, draw uint32) Machine {
 	}
 }
 
-// mixed are numbers that a short rule makes, each one below n.
-func mixed(seed uint64) func(n int) int {
-	return func(n int) int {
-		seed = seed*6364136223846793005 + 1442695040888963407
-		return int(seed >> 33 % uint64(n))
-	}
-}
-
 // mixedPicks are some of threads that there are, and of such as there aren't.
 func mixedPicks(next func(n int) int, threads, n int) []api.Pick {
 	l := make([]api.Pick, n)
@@ -264,20 +232,20 @@ func TestRunOne(t *testing.T) {
 	c := api.Config{Kind: api.Ring, K: 1, T: 1, M: 2}
 	l := [][]api.Op{{{Kind: 5, Val: 2}, {Kind: 7, Val: 0}}}
 	b := began{plan: counting}
-	x, e := Run(c, l, picked(0, 0, 0, 0, 0), b.begin)
+	x, e := Run(c, l, trial.Picked(0, 0, 0, 0, 0), b.begin)
 	read := api.Access{Do: api.Read, Area: api.Epoch}
 	write := func(n uint64) api.Access { return api.Access{Do: api.Write, Area: api.Epoch, New: n} }
 	end, _ := store.New(c)
 	end.Epoch = 5
 	want := api.Trace{
-		Steps: []api.Step{did(0, read, 0, false), did(0, write(5), 0, true), did(0, write(5), 5, true), did(0, read, 5, false)},
+		Steps: []api.Step{trial.Did(0, read, 0, false), trial.Did(0, write(5), 0, true), trial.Did(0, write(5), 5, true), trial.Did(0, read, 5, false)},
 		Calls: []api.Call{
 			{Thread: 0, Kind: 5, Val: 2, From: 0, To: 2, Code: api.Full, Out: 100},
 			{Thread: 0, Kind: 7, Val: 0, From: 3, To: 3, Code: api.Full, Out: 103},
 		},
 		End: end,
 	}
-	if e != api.OK || !same(x, want) {
+	if e != api.OK || !trial.Same(x, want) {
 		t.Errorf("%+v %v, not %+v", x, e, want)
 	}
 }
@@ -287,15 +255,15 @@ func TestRunThree(t *testing.T) {
 	c := api.Config{Kind: api.Stack, K: 1, T: 3, M: 2}
 	l := [][]api.Op{{{Kind: 3, Val: 1}, {Kind: 1, Val: 9}}, {{Kind: 10, Val: 1}}, {{Kind: 4, Val: 0}, {Kind: 6, Val: 0}, {Kind: 8, Val: 3}, {Kind: 8, Val: 4}}}
 	b := began{plan: counting}
-	x, e := Run(c, l, picked(1, 0, 3, 2, 1, -1, 1, 0, 2, 2, 1, 0, 2), b.begin)
+	x, e := Run(c, l, trial.Picked(1, 0, 3, 2, 1, -1, 1, 0, 2, 2, 1, 0, 2), b.begin)
 	read := api.Access{Do: api.Read, Area: api.Epoch}
 	write := func(n uint64) api.Access { return api.Access{Do: api.Write, Area: api.Epoch, New: n} }
 	end, _ := store.New(c)
 	end.Epoch = 11
 	want := api.Trace{
 		Steps: []api.Step{
-			did(1, read, 0, false), did(0, read, 0, false), did(2, read, 0, false), did(1, write(10), 0, true), did(0, write(3), 10, true),
-			did(2, read, 3, false), did(2, read, 3, false), did(0, read, 3, false), did(2, write(11), 3, true),
+			trial.Did(1, read, 0, false), trial.Did(0, read, 0, false), trial.Did(2, read, 0, false), trial.Did(1, write(10), 0, true), trial.Did(0, write(3), 10, true),
+			trial.Did(2, read, 3, false), trial.Did(2, read, 3, false), trial.Did(0, read, 3, false), trial.Did(2, write(11), 3, true),
 		},
 		Calls: []api.Call{
 			{Thread: 1, Kind: 10, Val: 1, From: 0, To: 3, Code: api.Full, Out: 100},
@@ -307,14 +275,14 @@ func TestRunThree(t *testing.T) {
 		},
 		End: end,
 	}
-	if e != api.OK || !same(x, want) {
+	if e != api.OK || !trial.Same(x, want) {
 		t.Errorf("%+v %v, not %+v", x, e, want)
 	}
 }
 
 // P3.1 and P3.3: runs of all kinds, of one thread and of several, of calls that go anywhere.
 func TestRunMixed(t *testing.T) {
-	next := mixed(1)
+	next := trial.Mixed(1)
 	for _, c := range configs() {
 		for n := range 30 {
 			l := mixedOps(next, c.T)
@@ -322,10 +290,10 @@ func TestRunMixed(t *testing.T) {
 			want := expected(c, l, picks, wandering)
 			for name, begin := range ways(wandering) {
 				x, e := Run(c, l, picks, begin)
-				if e != api.OK || !same(x, want) {
+				if e != api.OK || !trial.Same(x, want) {
 					t.Fatalf("%v %v %v, %s: %+v %v, not %+v", c, l, picks, name, x, e, want)
 				}
-				if m, e := store.Replay(c, x.Steps); e != api.OK || !sameMem(m, x.End) {
+				if m, e := store.Replay(c, x.Steps); e != api.OK || !trial.SameMem(m, x.End) {
 					t.Fatalf("%v, %s: the steps are replayed to %v %v, not %v", c, name, m, e, x.End)
 				}
 			}
@@ -365,12 +333,12 @@ func TestRunAsks(t *testing.T) {
 func TestRunNobody(t *testing.T) {
 	c := api.Config{Kind: api.Queue, K: 1, T: 3, M: 2}
 	l := [][]api.Op{{{Kind: 1, Val: 0}}, nil, {}}
-	want := expected(c, l, picked(0), counting)
+	want := expected(c, l, trial.Picked(0), counting)
 	want.Calls[0].Out = 9
 	for _, thread := range append(strange(), 1, 2, 3, 4) {
 		picks := []api.Pick{pick(thread, 1), pick(thread, 2), pick(0, 9), pick(thread, 3), pick(0, 4), pick(thread, 5), pick(0, 6)}
 		for name, begin := range ways(counting) {
-			if x, e := Run(c, l, picks, begin); e != api.OK || !same(x, want) {
+			if x, e := Run(c, l, picks, begin); e != api.OK || !trial.Same(x, want) {
 				t.Errorf("picks of the thread %d, %s: %+v %v, not %+v", thread, name, x, e, want)
 			}
 		}
@@ -383,16 +351,16 @@ func TestRunNone(t *testing.T) {
 		first, _ := store.New(c)
 		calls := mixedOps(func(n int) int { return n - 1 }, c.T)
 		for _, l := range [][][]api.Op{make([][]api.Op, c.T), calls} {
-			for _, picks := range [][]api.Pick{nil, {}, picked(-1, c.T)} {
+			for _, picks := range [][]api.Pick{nil, {}, trial.Picked(-1, c.T)} {
 				b := began{plan: counting}
 				x, e := Run(c, l, picks, b.begin)
-				if e != api.OK || !same(x, api.Trace{End: first}) || len(b.machines) != 0 {
+				if e != api.OK || !trial.Same(x, api.Trace{End: first}) || len(b.machines) != 0 {
 					t.Errorf("%v %v: %+v %v", c, picks, x, e)
 				}
 			}
 		}
-		x, e := Run(c, make([][]api.Op, c.T), picked(0, c.T-1, 0), (&began{}).begin)
-		if e != api.OK || !same(x, api.Trace{End: first}) {
+		x, e := Run(c, make([][]api.Op, c.T), trial.Picked(0, c.T-1, 0), (&began{}).begin)
+		if e != api.OK || !trial.Same(x, api.Trace{End: first}) {
 			t.Errorf("%v, no calls: %+v %v", c, x, e)
 		}
 	}
@@ -414,18 +382,18 @@ func TestRunMost(t *testing.T) {
 	}
 	want := expected(c, l, picks, counting)
 	for name, begin := range ways(counting) {
-		if x, e := Run(c, l, picks, begin); e != api.OK || !same(x, want) {
+		if x, e := Run(c, l, picks, begin); e != api.OK || !trial.Same(x, want) {
 			t.Errorf("%s: %d steps, %d calls, %v", name, len(x.Steps), len(x.Calls), e)
 		}
 	}
 	b := began{plan: counting}
-	if x, e := Run(c, l, append(picks, api.Pick{}), b.begin); e != api.Arg || !same(x, api.Trace{}) {
+	if x, e := Run(c, l, append(picks, api.Pick{}), b.begin); e != api.Arg || !trial.Same(x, api.Trace{}) {
 		t.Errorf("20001 picks: %d steps, %v", len(x.Steps), e)
 	}
 	for i := range l {
 		k := slices.Clone(l)
 		k[i] = append(k[i], api.Op{})
-		if x, e := Run(c, k, picks[:10], b.begin); e != api.Arg || !same(x, api.Trace{}) {
+		if x, e := Run(c, k, picks[:10], b.begin); e != api.Arg || !trial.Same(x, api.Trace{}) {
 			t.Errorf("1001 calls of the thread %d: %+v, %v", i, x, e)
 		}
 	}
@@ -455,7 +423,7 @@ func TestRunArg(t *testing.T) {
 			lists = append(lists, slices.Repeat([][]api.Op{one}, c.T))
 		}
 		for _, l := range lists {
-			if x, e := Run(c, l, picked(0, 0), b.begin); e != api.Arg || !same(x, api.Trace{}) {
+			if x, e := Run(c, l, trial.Picked(0, 0), b.begin); e != api.Arg || !trial.Same(x, api.Trace{}) {
 				t.Errorf("%v, %d lists: %+v %v", c, len(l), x, e)
 			}
 		}
@@ -466,7 +434,7 @@ func TestRunArg(t *testing.T) {
 				continue
 			}
 			for _, l := range [][][]api.Op{make([][]api.Op, n), slices.Repeat([][]api.Op{one}, n)} {
-				if x, e := Run(c, l, picked(0, 0), b.begin); e != api.Arg || !same(x, api.Trace{}) {
+				if x, e := Run(c, l, trial.Picked(0, 0), b.begin); e != api.Arg || !trial.Same(x, api.Trace{}) {
 					t.Errorf("%v, %d lists: %+v %v", c, n, x, e)
 				}
 			}
@@ -487,12 +455,12 @@ func TestRunOwn(t *testing.T) {
 	c := api.Config{Kind: api.Queue, K: 2, T: 2, M: 3}
 	op := api.Op{Kind: 77, Val: 78}
 	l := roomy([][]api.Op{roomy([]api.Op{{Kind: 1, Val: 1}, {Kind: 2, Val: 2}}, op, op), roomy([]api.Op{{Kind: 3, Val: 1}}, op)}, []api.Op{op})
-	picks := roomy(picked(0, 1, 1, 0, 0, 0), api.Pick{Thread: 1, Draw: 5}, api.Pick{Thread: 1, Draw: 6})
-	want := expected(c, [][]api.Op{{{Kind: 1, Val: 1}, {Kind: 2, Val: 2}}, {{Kind: 3, Val: 1}}}, picked(0, 1, 1, 0, 0, 0), counting)
+	picks := roomy(trial.Picked(0, 1, 1, 0, 0, 0), api.Pick{Thread: 1, Draw: 5}, api.Pick{Thread: 1, Draw: 6})
+	want := expected(c, [][]api.Op{{{Kind: 1, Val: 1}, {Kind: 2, Val: 2}}, {{Kind: 3, Val: 1}}}, trial.Picked(0, 1, 1, 0, 0, 0), counting)
 	for name, begin := range ways(counting) {
 		for range 3 {
 			x, e := Run(c, l, picks, begin)
-			if e != api.OK || !same(x, want) {
+			if e != api.OK || !trial.Same(x, want) {
 				t.Fatalf("%s: %+v %v, not %+v", name, x, e, want)
 			}
 			scribble(x)
@@ -503,7 +471,7 @@ func TestRunOwn(t *testing.T) {
 			t.Errorf("the calls %d were changed: %v, not %v", i, m[:len(k)], k)
 		}
 	}
-	if k := append(picked(0, 1, 1, 0, 0, 0), api.Pick{Thread: 1, Draw: 5}, api.Pick{Thread: 1, Draw: 6}); !slices.Equal(picks[:8], k) {
+	if k := append(trial.Picked(0, 1, 1, 0, 0, 0), api.Pick{Thread: 1, Draw: 5}, api.Pick{Thread: 1, Draw: 6}); !slices.Equal(picks[:8], k) {
 		t.Errorf("the picks were changed: %v, not %v", picks[:8], k)
 	}
 }
@@ -528,7 +496,7 @@ func TestRunStops(t *testing.T) {
 	c := api.Config{Kind: api.Queue, K: 2, T: 4, M: 3}
 	ops := []api.Op{{Kind: 1, Val: 1}, {Kind: 1, Val: 1}}
 	b := began{plan: counting}
-	x, e := Run(c, [][]api.Op{ops, ops, ops, ops}, picked(0, 1, 2, 1, 0, 1), func(thread int, o api.Op, draw uint32) Machine {
+	x, e := Run(c, [][]api.Op{ops, ops, ops, ops}, trial.Picked(0, 1, 2, 1, 0, 1), func(thread int, o api.Op, draw uint32) Machine {
 		if m := b.begin(thread, o, draw); thread != 2 {
 			return m
 		} else {
@@ -555,10 +523,10 @@ func TestRunAsksNothing(t *testing.T) {
 		return counting(thread, o, draw, found)
 	}
 	l := [][]api.Op{{{Kind: 1}, {Kind: 2}}, {{Kind: 3}, {Kind: 4}}}
-	want := expected(c, [][]api.Op{nil, l[1]}, picked(-1, 1, -1, 1), f)
+	want := expected(c, [][]api.Op{nil, l[1]}, trial.Picked(-1, 1, -1, 1), f)
 	want.Calls = slices.Insert(want.Calls, 0, api.Call{Thread: 0, Kind: 1, From: 0, To: -1})
 	for name, begin := range ways(f) {
-		if x, e := Run(c, l, picked(0, 1, 0, 1), begin); e != api.OK || !same(x, want) {
+		if x, e := Run(c, l, trial.Picked(0, 1, 0, 1), begin); e != api.OK || !trial.Same(x, want) {
 			t.Errorf("%s: %+v %v, not %+v", name, x, e, want)
 		}
 	}
@@ -596,13 +564,13 @@ func TestRunBroken(t *testing.T) {
 	}
 	for name, one := range machines {
 		b := began{plan: counting}
-		x, e := Run(c, l, picked(1, 0, 0, 0, 0), func(thread int, o api.Op, draw uint32) Machine {
+		x, e := Run(c, l, trial.Picked(1, 0, 0, 0, 0), func(thread int, o api.Op, draw uint32) Machine {
 			if thread == 0 {
 				return one()
 			}
 			return b.begin(thread, o, draw)
 		})
-		if e != api.Arg || !same(x, api.Trace{}) {
+		if e != api.Arg || !trial.Same(x, api.Trace{}) {
 			t.Errorf("%s: %+v %v", name, x, e)
 		}
 		if len(b.machines) != 1 || b.machines[0].stops != 1 {
@@ -612,14 +580,14 @@ func TestRunBroken(t *testing.T) {
 	unstoppable := func(int, api.Op, uint32) Machine {
 		return unstoppable{unstopped{&planned{plan: counting, op: api.Op{Val: 9}}}}
 	}
-	if x, e := Run(c, l, picked(0), unstoppable); e != api.Arg || !same(x, api.Trace{}) {
+	if x, e := Run(c, l, trial.Picked(0), unstoppable); e != api.Arg || !trial.Same(x, api.Trace{}) {
 		t.Errorf("a machine panics when it is stopped: %+v %v", x, e)
 	}
-	if x, e := Run(c, l, picked(0), nil); e != api.Arg || !same(x, api.Trace{}) {
+	if x, e := Run(c, l, trial.Picked(0), nil); e != api.Arg || !trial.Same(x, api.Trace{}) {
 		t.Errorf("nothing begins a call: %+v %v", x, e)
 	}
 	first, _ := store.New(c)
-	if x, e := Run(c, l, picked(2), nil); e != api.OK || !same(x, api.Trace{End: first}) {
+	if x, e := Run(c, l, trial.Picked(2), nil); e != api.OK || !trial.Same(x, api.Trace{End: first}) {
 		t.Errorf("nothing begins a call, and none begins: %+v %v", x, e)
 	}
 }

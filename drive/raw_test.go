@@ -6,6 +6,7 @@ import (
 
 	"shunting/api"
 	"shunting/store"
+	"shunting/trial"
 )
 
 // rawExpected is the run that the chapter tells, of accesses that are calls of their own.
@@ -38,18 +39,18 @@ func TestRawTold(t *testing.T) {
 	swap := api.Access{Do: api.Swap, Area: api.Link, At: 0, Old: 8, New: 9}
 	far := api.Access{Do: api.Write, Area: api.Link, At: 2, New: 7}
 	never := api.Access{Do: 4, Area: api.Link, At: 0, New: 7}
-	x, e := Raw(c, [][]api.Access{{read, swap, swap, read}, {swap, write, far, never}}, picked(0, 1, 1, -1, 0, 0, 2, 1, 1, 1))
+	x, e := Raw(c, [][]api.Access{{read, swap, swap, read}, {swap, write, far, never}}, trial.Picked(0, 1, 1, -1, 0, 0, 2, 1, 1, 1))
 	end, _ := store.New(c)
 	end.Link[0] = 9
 	want := api.Trace{
-		Steps: []api.Step{did(0, read, 2, false), did(1, swap, 2, false), did(1, write, 2, true), did(0, swap, 8, true), did(0, swap, 9, false), did(1, far, 0, false), did(1, never, 0, false)},
+		Steps: []api.Step{trial.Did(0, read, 2, false), trial.Did(1, swap, 2, false), trial.Did(1, write, 2, true), trial.Did(0, swap, 8, true), trial.Did(0, swap, 9, false), trial.Did(1, far, 0, false), trial.Did(1, never, 0, false)},
 		Calls: []api.Call{
 			{Thread: 0, From: 0, To: 0, Out: 0}, {Thread: 1, From: 1, To: 1, Out: 0}, {Thread: 1, From: 2, To: 2, Out: 1}, {Thread: 0, From: 3, To: 3, Out: 1},
 			{Thread: 0, From: 4, To: 4, Out: 0}, {Thread: 1, From: 5, To: 5, Out: 0}, {Thread: 1, From: 6, To: 6, Out: 0},
 		},
 		End: end,
 	}
-	if e != api.OK || !same(x, want) {
+	if e != api.OK || !trial.Same(x, want) {
 		t.Errorf("%+v %v, not %+v", x, e, want)
 	}
 }
@@ -57,7 +58,7 @@ func TestRawTold(t *testing.T) {
 // P3.2: the example: one thread, two picks, one access: one step.
 func TestRawExample(t *testing.T) {
 	c := api.Config{Kind: api.Queue, K: 1, T: 1, M: 2}
-	x, e := Raw(c, [][]api.Access{{{Do: api.Read, Area: api.Tail}}}, picked(0, 0))
+	x, e := Raw(c, [][]api.Access{{{Do: api.Read, Area: api.Tail}}}, trial.Picked(0, 0))
 	if e != api.OK || len(x.Steps) != 1 || len(x.Calls) != 1 || x.Steps[0].Was != 1 {
 		t.Errorf("%+v %v", x, e)
 	}
@@ -76,17 +77,17 @@ func mixedAccesses(next func(n int) int, threads int) [][]api.Access {
 
 // P3.2 and P3.3: runs of all kinds, of one thread and of several.
 func TestRawMixed(t *testing.T) {
-	next := mixed(2)
+	next := trial.Mixed(2)
 	for _, c := range configs() {
 		for n := range 40 {
 			l := mixedAccesses(next, c.T)
 			picks := mixedPicks(next, c.T, n*2)
 			want := rawExpected(c, l, picks)
 			x, e := Raw(c, l, picks)
-			if e != api.OK || !same(x, want) {
+			if e != api.OK || !trial.Same(x, want) {
 				t.Fatalf("%v %v %v: %+v %v, not %+v", c, l, picks, x, e, want)
 			}
-			if m, e := store.Replay(c, x.Steps); e != api.OK || !sameMem(m, x.End) {
+			if m, e := store.Replay(c, x.Steps); e != api.OK || !trial.SameMem(m, x.End) {
 				t.Fatalf("%v: the steps are replayed to %v %v, not %v", c, m, e, x.End)
 			}
 		}
@@ -98,18 +99,18 @@ func TestRawNone(t *testing.T) {
 	write := []api.Access{{Do: api.Write, Area: api.Epoch, New: 3}}
 	for _, c := range configs() {
 		first, _ := store.New(c)
-		for _, picks := range [][]api.Pick{nil, {}, picked(-1, c.T)} {
-			if x, e := Raw(c, slices.Repeat([][]api.Access{write}, c.T), picks); e != api.OK || !same(x, api.Trace{End: first}) {
+		for _, picks := range [][]api.Pick{nil, {}, trial.Picked(-1, c.T)} {
+			if x, e := Raw(c, slices.Repeat([][]api.Access{write}, c.T), picks); e != api.OK || !trial.Same(x, api.Trace{End: first}) {
 				t.Errorf("%v %v: %+v %v", c, picks, x, e)
 			}
 		}
-		if x, e := Raw(c, make([][]api.Access, c.T), picked(0, c.T-1, 0)); e != api.OK || !same(x, api.Trace{End: first}) {
+		if x, e := Raw(c, make([][]api.Access, c.T), trial.Picked(0, c.T-1, 0)); e != api.OK || !trial.Same(x, api.Trace{End: first}) {
 			t.Errorf("%v, no accesses: %+v %v", c, x, e)
 		}
 		l := make([][]api.Access, c.T)
 		l[c.T-1] = write
-		want := rawExpected(c, l, picked(c.T-1))
-		if x, e := Raw(c, l, picked(0, c.T-1, c.T-1, 0)); e != api.OK || !same(x, want) {
+		want := rawExpected(c, l, trial.Picked(c.T-1))
+		if x, e := Raw(c, l, trial.Picked(0, c.T-1, c.T-1, 0)); e != api.OK || !trial.Same(x, want) {
 			t.Errorf("%v, one access: %+v %v", c, x, e)
 		}
 	}
@@ -130,16 +131,16 @@ func TestRawMost(t *testing.T) {
 		picks[i].Thread = i % 9
 	}
 	want := rawExpected(c, l, picks)
-	if x, e := Raw(c, l, picks); e != api.OK || !same(x, want) || len(x.Calls) != 8000 {
+	if x, e := Raw(c, l, picks); e != api.OK || !trial.Same(x, want) || len(x.Calls) != 8000 {
 		t.Errorf("%d steps, %d calls, %v", len(x.Steps), len(x.Calls), e)
 	}
-	if x, e := Raw(c, l, append(picks, api.Pick{})); e != api.Arg || !same(x, api.Trace{}) {
+	if x, e := Raw(c, l, append(picks, api.Pick{})); e != api.Arg || !trial.Same(x, api.Trace{}) {
 		t.Errorf("20001 picks: %d steps, %v", len(x.Steps), e)
 	}
 	for i := range l {
 		k := slices.Clone(l)
 		k[i] = append(k[i], api.Access{})
-		if x, e := Raw(c, k, picks[:10]); e != api.Arg || !same(x, api.Trace{}) {
+		if x, e := Raw(c, k, picks[:10]); e != api.Arg || !trial.Same(x, api.Trace{}) {
 			t.Errorf("1001 accesses of the thread %d: %+v, %v", i, x, e)
 		}
 	}
@@ -154,7 +155,7 @@ func TestRawArg(t *testing.T) {
 			lists = append(lists, slices.Repeat([][]api.Access{write}, c.T))
 		}
 		for _, l := range lists {
-			if x, e := Raw(c, l, picked(0, 0)); e != api.Arg || !same(x, api.Trace{}) {
+			if x, e := Raw(c, l, trial.Picked(0, 0)); e != api.Arg || !trial.Same(x, api.Trace{}) {
 				t.Errorf("%v, %d lists: %+v %v", c, len(l), x, e)
 			}
 		}
@@ -165,7 +166,7 @@ func TestRawArg(t *testing.T) {
 				continue
 			}
 			for _, l := range [][][]api.Access{make([][]api.Access, n), slices.Repeat([][]api.Access{write}, n)} {
-				if x, e := Raw(c, l, picked(0, 0)); e != api.Arg || !same(x, api.Trace{}) {
+				if x, e := Raw(c, l, trial.Picked(0, 0)); e != api.Arg || !trial.Same(x, api.Trace{}) {
 					t.Errorf("%v, %d lists: %+v %v", c, n, x, e)
 				}
 			}
@@ -178,11 +179,11 @@ func TestRawOwn(t *testing.T) {
 	c := api.Config{Kind: api.Queue, K: 2, T: 2, M: 3}
 	write := func(n uint64) api.Access { return api.Access{Do: api.Write, Area: api.Slot, At: 1, New: n} }
 	l := roomy([][]api.Access{roomy([]api.Access{write(1), write(2)}, write(3)), roomy([]api.Access{write(4)}, write(5))}, []api.Access{write(6)})
-	picks := roomy(picked(0, 1, 1, 0, 0, 0), api.Pick{Thread: 1, Draw: 5})
-	want := rawExpected(c, [][]api.Access{{write(1), write(2)}, {write(4)}}, picked(0, 1, 0))
+	picks := roomy(trial.Picked(0, 1, 1, 0, 0, 0), api.Pick{Thread: 1, Draw: 5})
+	want := rawExpected(c, [][]api.Access{{write(1), write(2)}, {write(4)}}, trial.Picked(0, 1, 0))
 	for range 3 {
 		x, e := Raw(c, l, picks)
-		if e != api.OK || !same(x, want) {
+		if e != api.OK || !trial.Same(x, want) {
 			t.Fatalf("%+v %v, not %+v", x, e, want)
 		}
 		scribble(x)
@@ -195,7 +196,7 @@ func TestRawOwn(t *testing.T) {
 	if len(l[0]) != 2 || len(l[1]) != 1 {
 		t.Errorf("the lists were cut: %d, %d", len(l[0]), len(l[1]))
 	}
-	if k := append(picked(0, 1, 1, 0, 0, 0), api.Pick{Thread: 1, Draw: 5}); !slices.Equal(picks[:7], k) {
+	if k := append(trial.Picked(0, 1, 1, 0, 0, 0), api.Pick{Thread: 1, Draw: 5}); !slices.Equal(picks[:7], k) {
 		t.Errorf("the picks were changed: %v, not %v", picks[:7], k)
 	}
 }
