@@ -20,40 +20,6 @@ func Same(x, y api.Trace) bool {
 	return slices.Equal(x.Steps, y.Steps) && slices.Equal(x.Calls, y.Calls) && SameMem(x.End, y.End)
 }
 
-// Read is an access that reads.
-func Read(area, at int) api.Access { return api.Access{Do: api.Read, Area: area, At: at} }
-
-// Write is an access that writes w.
-func Write(area, at int, w uint64) api.Access {
-	return api.Access{Do: api.Write, Area: area, At: at, New: w}
-}
-
-// Swap is an access that swaps old for w.
-func Swap(area, at int, old, w uint64) api.Access {
-	return api.Access{Do: api.Swap, Area: area, At: at, Old: old, New: w}
-}
-
-// Did is the step of a thread that did a, and was told was and done.
-func Did(thread int, a api.Access, was uint64, done bool) api.Step {
-	return api.Step{Thread: thread, Access: a, Was: was, Done: done}
-}
-
-// Picked are picks of these threads, each with a draw of its own.
-func Picked(threads ...int) (l []api.Pick) {
-	for i, thread := range threads {
-		l = append(l, api.Pick{Thread: thread, Draw: uint32(100 + i)})
-	}
-	return l
-}
-
-// Mixed are numbers that a short rule makes, each one below n.
-func Mixed(seed uint64) func(n int) int {
-	return func(n int) int {
-		seed = seed*6364136223846793005 + 1442695040888963407
-		return int(seed >> 33 % uint64(n))
-	}
-}
-
 // Input is what a run is made of.
 type Input struct {
 	Config api.Config

@@ -1,0 +1,360 @@
+package fifo
+
+import (
+	"slices"
+	"testing"
+
+	"shunting/api"
+	"shunting/drive"
+	"shunting/trial"
+)
+
+// place is a machine that stands in a Put or a Get at a line, as the chapter numbers it; what layers 4 and 5 tell is gone through by lines of theirs.
+type place struct {
+	o             api.Op
+	thread, slots int
+	draw          uint32
+	line          string       // "": ahead of the first one
+	in            *trial.Lines // what it is in the midst of
+	s, n, m       uint64       // by the chapter's letters; m: 0, if it holds none
+	nth           int          // of its slots
+	was           uint64       // what it read of that one
+	seen          []uint64     // what is remembered of them
+	code          api.Code
+	out           uint32
+}
+
+// over is the line behind the last one.
+const over = "over"
+
+// begun is the machine of a call of a config, as the chapters' lines tell it.
+func begun(c api.Config) func(thread int, o api.Op, draw uint32) drive.Machine {
+	return func(thread int, o api.Op, draw uint32) drive.Machine {
+		if o.Kind == api.Collect {
+			return trial.Collects(c.T)
+		}
+		return &place{o: o, thread: thread, slots: c.K, draw: draw}
+	}
+}
+
+// Next goes on to the next line, by what the access of the last one was told.
+func (p *place) Next(was uint64, done bool) (api.Access, bool) {
+	switch {
+	case p.line == "":
+		p.line = "hold"
+	case p.in == nil && p.o.Kind == api.Put:
+		p.line = p.puts(was, done)
+	case p.in == nil:
+		p.line = p.gets(was, done)
+	default:
+		if a, more := p.in.Next(was, done); more {
+			return a, true
+		}
+		p.line = p.leaves()
+	}
+	if p.in = p.enters(); p.in != nil {
+		return p.in.Next(0, false)
+	}
+	return p.asks(), p.line != over
+}
+
+func (p *place) Result() (api.Code, uint32) { return p.code, p.out }
+
+// enters are the lines of another layer that the line tells.
+func (p *place) enters() *trial.Lines {
+	switch p.line {
+	case "hold":
+		return trial.Holds(p.thread)
+	case "put 5: take":
+		return trial.Takes()
+	case "put 10: give":
+		return trial.Gives(p.m)
+	case "get 7: retire":
+		return trial.Retires(p.s)
+	case "drop":
+		return trial.Drops(p.thread)
+	}
+	return nil
+}
+
+// leaves is the line behind such lines.
+func (p *place) leaves() string {
+	switch p.line {
+	case "hold":
+		if p.o.Kind == api.Put {
+			return "put 2"
+		}
+		return "get 2"
+	case "put 5: take":
+		if p.m = p.in.Taken(); p.m == 0 {
+			return p.ends(api.NoMem, 0)
+		}
+		return "put 5: next"
+	case "put 10: give":
+		return "drop"
+	case "get 7: retire":
+		return "get 2"
+	}
+	return over
+}
+
+// ends is the line by which a call ends.
+func (p *place) ends(code api.Code, out uint32) string {
+	p.code, p.out = code, out
+	if p.m != 0 {
+		return "put 10: slot"
+	}
+	return "drop"
+}
+
+// at is the place of a segment's slot.
+func (p *place) at(s uint64, nth int) int {
+	return (int(s&trial.Low)-1)*p.slots + int((uint64(p.draw)+uint64(nth))%uint64(p.slots))
+}
+
+// asks is the access that a line of this layer tells.
+func (p *place) asks() api.Access {
+	life := p.s &^ trial.Low
+	next := int(p.s&trial.Low) - 1
+	switch p.line {
+	case "put 2":
+		return trial.Read(api.Tail, 0)
+	case "put 3", "get 3", "get 4":
+		return trial.Read(api.Slot, p.at(p.s, p.nth))
+	case "put 3: swap":
+		return trial.Swap(api.Slot, p.at(p.s, p.nth), life, life|uint64(p.o.Val)+1)
+	case "put 4", "get 5":
+		return trial.Read(api.Next, next)
+	case "put 4: swap", "get 6: swap":
+		return trial.Swap(api.Tail, 0, p.s, p.n)
+	case "put 5: next":
+		return trial.Write(api.Next, int(p.m&trial.Low)-1, 0)
+	case "put 5: slot":
+		return trial.Write(api.Slot, p.at(p.m, 0), p.m&^trial.Low|uint64(p.o.Val)+1)
+	case "put 6":
+		return trial.Swap(api.Next, next, 0, p.m)
+	case "put 7":
+		return trial.Swap(api.Tail, 0, p.s, p.m)
+	case "put 10: slot":
+		return trial.Write(api.Slot, p.at(p.m, 0), p.m&^trial.Low)
+	case "get 2":
+		return trial.Read(api.Head, 0)
+	case "get 3: swap", "get 4: swap":
+		return trial.Swap(api.Slot, p.at(p.s, p.nth), p.was, life+1<<32)
+	case "get 6":
+		return trial.Read(api.Tail, 0)
+	case "get 7":
+		return trial.Swap(api.Head, 0, p.s, p.n)
+	}
+	return api.Access{}
+}
+
+// puts is the line behind one of a Put's own.
+func (p *place) puts(was uint64, done bool) string {
+	switch p.line {
+	case "put 2":
+		p.s, p.nth = was, 0
+		return "put 3"
+	case "put 3":
+		if was == p.s&^trial.Low {
+			return "put 3: swap"
+		}
+		return p.further("put 3", "put 4")
+	case "put 3: swap":
+		if done {
+			return p.ends(api.OK, 0)
+		}
+		return p.further("put 3", "put 4")
+	case "put 4":
+		p.n = was
+		if was != 0 {
+			return "put 4: swap"
+		}
+		if p.m == 0 {
+			return "put 5: take"
+		}
+		return "put 6"
+	case "put 5: next":
+		return "put 5: slot"
+	case "put 5: slot":
+		return "put 6"
+	case "put 6":
+		if done {
+			return "put 7"
+		}
+	case "put 7":
+		p.m = 0
+		return p.ends(api.OK, 0)
+	case "put 10: slot":
+		return "put 10: give"
+	}
+	return "put 2"
+}
+
+// further is the line for the next one of its slots, or the one behind them.
+func (p *place) further(line, behind string) string {
+	if p.nth++; p.nth < p.slots {
+		return line
+	}
+	p.nth = 0
+	return behind
+}
+
+// gets is the line behind one of a Get's own.
+func (p *place) gets(was uint64, done bool) string {
+	value := was>>32 == p.s>>32 && was&trial.Low != 0
+	switch p.line {
+	case "get 2":
+		p.s, p.nth, p.seen = was, 0, make([]uint64, p.slots)
+		return "get 3"
+	case "get 3":
+		p.was = was
+		if value {
+			return "get 3: swap"
+		}
+		return p.remembers(was)
+	case "get 3: swap":
+		if done {
+			return p.ends(api.OK, uint32(p.was&trial.Low-1))
+		}
+		return p.remembers(was)
+	case "get 4":
+		p.was = was
+		if value {
+			return "get 4: swap"
+		}
+		if was == p.seen[p.nth] {
+			line := p.further("get 4", over)
+			if line == over {
+				return p.ends(api.Empty, 0)
+			}
+			return line
+		}
+	case "get 4: swap":
+		if done {
+			return p.ends(api.OK, uint32(p.was&trial.Low-1))
+		}
+	case "get 5":
+		p.n = was
+		if was == 0 {
+			return p.ends(api.Empty, 0)
+		}
+		return "get 6"
+	case "get 6":
+		if was == p.s {
+			return "get 6: swap"
+		}
+		return "get 7"
+	case "get 6: swap":
+		return "get 7"
+	case "get 7":
+		if done {
+			return "get 7: retire"
+		}
+	}
+	return "get 2"
+}
+
+// remembers is the line behind one of a Get's first look.
+func (p *place) remembers(was uint64) string {
+	p.seen[p.nth] = was
+	line := p.further("get 3", "get 5")
+	if line == "get 5" && slices.Contains(p.seen, p.s&^trial.Low) {
+		return "get 4"
+	}
+	return line
+}
+
+// expected is the run that the chapters tell.
+func expected(c api.Config, l [][]api.Op, picks []api.Pick) api.Trace {
+	x, _ := drive.Run(c, l, picks, begun(c))
+	return x
+}
+
+// anyCalls are calls, of each thread some; now more Puts, now more Gets.
+func anyCalls(next func(n int) int, threads int) [][]api.Op {
+	l := make([][]api.Op, threads)
+	for i := range l {
+		puts := 1 + next(9)
+		for range next(30) {
+			o := api.Op{Kind: api.Get, Val: uint32(next(1<<31)) * 2}
+			switch n := next(12); {
+			case n < puts:
+				o.Kind = api.Put
+			case n == 11:
+				o.Kind = api.Collect
+			}
+			l[i] = append(l[i], o)
+		}
+	}
+	return l
+}
+
+// counts counts what steps did, lest runs are held against each other in which nothing happens.
+func counts(n map[string]int, x api.Trace) {
+	areas := map[int]string{api.Slot: "slot", api.Next: "next", api.Tail: "tail", api.Head: "head", api.Free: "free", api.Limbo: "limbo", api.Epoch: "epoch"}
+	for _, s := range x.Steps {
+		switch {
+		case s.Access.Do == api.Swap && !s.Done:
+			n["a lost race for "+areas[s.Access.Area]]++
+		case s.Access.Do == api.Write && s.Access.Area == api.Slot && s.Access.New&trial.Low == 0:
+			n["a segment given back"]++
+		case s.Access.Do == api.Swap && s.Access.Area == api.Next && s.Access.New>>32 > 0:
+			n["a segment linked anew"]++
+		}
+	}
+	for _, call := range x.Calls {
+		switch {
+		case call.Kind == api.Get && call.Code == api.Empty:
+			n["an empty queue"]++
+		case call.Code == api.NoMem:
+			n["no segment"]++
+		case call.To < 0:
+			n["a call that isn't over"]++
+		}
+	}
+}
+
+// P6.1 and P6.2: runs of any calls, whatever is picked.
+func TestRunMixed(t *testing.T) {
+	next := trial.Mixed(10)
+	n := map[string]int{}
+	for _, slots := range []int{1, 2, 3, 5} {
+		for _, threads := range []int{1, 2, 3, 5, 8} {
+			for i := range 150 {
+				c := queue(slots, threads, 2+next(8))
+				l, picks := anyCalls(next, threads), trial.Bursts(next, threads, i*5)
+				x, e := Run(c, l, picks)
+				if want := expected(c, l, picks); e != api.OK || !trial.Same(x, want) {
+					t.Fatalf("%v %v %v: %+v %v, not %+v", c, l, picks, x, e, want)
+				}
+				counts(n, x)
+			}
+		}
+	}
+	for _, what := range []string{
+		"a lost race for slot", "a lost race for next", "a lost race for tail", "a lost race for head", "a lost race for free", "a lost race for limbo", "a lost race for epoch",
+		"a segment given back", "a segment linked anew", "an empty queue", "no segment", "a call that isn't over",
+	} {
+		if n[what] < 20 {
+			t.Errorf("%s: just %d times", what, n[what])
+		}
+	}
+}
+
+// P6.2: as many slots, threads, segments, calls and picks as may be.
+func TestMost(t *testing.T) {
+	next := trial.Mixed(11)
+	c := queue(api.MaxK, api.MaxT, api.MaxM)
+	l := make([][]api.Op, c.T)
+	for i := range l {
+		for range api.MaxOps {
+			kinds := []int{api.Put, api.Put, api.Get}
+			l[i] = append(l[i], api.Op{Kind: kinds[next(3)], Val: uint32(next(1 << 31))})
+		}
+	}
+	picks := trial.Bursts(next, c.T, api.MaxPicks)
+	if x, e := Run(c, l, picks); e != api.OK || !trial.Same(x, expected(c, l, picks)) {
+		t.Errorf("%d steps, %d calls, %v", len(x.Steps), len(x.Calls), e)
+	}
+}
