@@ -50,7 +50,7 @@ func TestHoldGreat(t *testing.T) {
 		s := starts(e)
 		Hold(s.do, 1)
 		Drop(s.do, 1)
-		s.did(t, reads(0, api.Epoch, 0, e), writes(0, api.Pin, 1, 0, e+1), reads(0, api.Epoch, 0, e), writes(0, api.Pin, 1, e+1, 0))
+		s.did(t, trial.Reads(0, api.Epoch, 0, e), trial.Writes(0, api.Pin, 1, 0, e+1), trial.Reads(0, api.Epoch, 0, e), trial.Writes(0, api.Pin, 1, e+1, 0))
 	}
 }
 
@@ -61,11 +61,11 @@ func TestHoldBack(t *testing.T) {
 		s.turns[2+2*i] = func() { s.words.Epoch = e }
 	}
 	Hold(s.do, 0)
-	s.did(t, reads(0, api.Epoch, 0, 3),
-		writes(0, api.Pin, 0, 0, 4), reads(0, api.Epoch, 0, 5),
-		writes(0, api.Pin, 0, 4, 6), reads(0, api.Epoch, 0, 3),
-		writes(0, api.Pin, 0, 6, 4), reads(0, api.Epoch, 0, 5+1<<32),
-		writes(0, api.Pin, 0, 4, 6+1<<32), reads(0, api.Epoch, 0, 5+1<<32))
+	s.did(t, trial.Reads(0, api.Epoch, 0, 3),
+		trial.Writes(0, api.Pin, 0, 0, 4), trial.Reads(0, api.Epoch, 0, 5),
+		trial.Writes(0, api.Pin, 0, 4, 6), trial.Reads(0, api.Epoch, 0, 3),
+		trial.Writes(0, api.Pin, 0, 6, 4), trial.Reads(0, api.Epoch, 0, 5+1<<32),
+		trial.Writes(0, api.Pin, 0, 4, 6+1<<32), trial.Reads(0, api.Epoch, 0, 5+1<<32))
 }
 
 // P5.1: which list of limbo it is, hangs on the whole epoch; its high number is the epoch modulo 2^32; a life goes round.
@@ -90,8 +90,8 @@ func TestRetireGreat(t *testing.T) {
 		s := starts(c.epoch)
 		s.words.Limbo[c.at] = c.was
 		Retire(s.do, c.ref)
-		s.did(t, reads(0, api.Epoch, 0, c.epoch), reads(0, api.Limbo, c.at, c.was),
-			writes(0, api.Link, int(c.ref&top)-1, 0, c.link), swaps(0, api.Limbo, c.at, c.was, c.is))
+		s.did(t, trial.Reads(0, api.Epoch, 0, c.epoch), trial.Reads(0, api.Limbo, c.at, c.was),
+			trial.Writes(0, api.Link, int(c.ref&top)-1, 0, c.link), trial.Swaps(0, api.Limbo, c.at, c.was, c.is))
 	}
 }
 
@@ -105,11 +105,11 @@ func TestRetireFrees(t *testing.T) {
 		s.words.Link[3] = 0xffffffff00000001
 		s.words.Link[0] = 0x900000000
 		Retire(s.do, 0x200000003)
-		s.did(t, reads(0, api.Epoch, 0, 6), reads(0, api.Limbo, 0, high<<32|2), swaps(0, api.Limbo, 0, high<<32|2, high<<32),
-			reads(0, api.Link, 1, 0x500000004), reads(0, api.Free, 0, 0xffffffff00000000), writes(0, api.Link, 1, 0x500000004, 0x500000000), swaps(0, api.Free, 0, 0xffffffff00000000, 2),
-			reads(0, api.Link, 3, 0xffffffff00000001), reads(0, api.Free, 0, 2), writes(0, api.Link, 3, 0xffffffff00000001, 0xffffffff00000002), swaps(0, api.Free, 0, 2, 0x100000004),
-			reads(0, api.Link, 0, 0x900000000), reads(0, api.Free, 0, 0x100000004), writes(0, api.Link, 0, 0x900000000, 0x900000004), swaps(0, api.Free, 0, 0x100000004, 0x200000001),
-			reads(0, api.Limbo, 0, high<<32), writes(0, api.Link, 2, 0, 0x300000000), swaps(0, api.Limbo, 0, high<<32, 0x600000003))
+		s.did(t, trial.Reads(0, api.Epoch, 0, 6), trial.Reads(0, api.Limbo, 0, high<<32|2), trial.Swaps(0, api.Limbo, 0, high<<32|2, high<<32),
+			trial.Reads(0, api.Link, 1, 0x500000004), trial.Reads(0, api.Free, 0, 0xffffffff00000000), trial.Writes(0, api.Link, 1, 0x500000004, 0x500000000), trial.Swaps(0, api.Free, 0, 0xffffffff00000000, 2),
+			trial.Reads(0, api.Link, 3, 0xffffffff00000001), trial.Reads(0, api.Free, 0, 2), trial.Writes(0, api.Link, 3, 0xffffffff00000001, 0xffffffff00000002), trial.Swaps(0, api.Free, 0, 2, 0x100000004),
+			trial.Reads(0, api.Link, 0, 0x900000000), trial.Reads(0, api.Free, 0, 0x100000004), trial.Writes(0, api.Link, 0, 0x900000000, 0x900000004), trial.Swaps(0, api.Free, 0, 0x100000004, 0x200000001),
+			trial.Reads(0, api.Limbo, 0, high<<32), trial.Writes(0, api.Link, 2, 0, 0x300000000), trial.Swaps(0, api.Limbo, 0, high<<32, 0x600000003))
 	}
 }
 
@@ -120,9 +120,9 @@ func TestRetireFreesNot(t *testing.T) {
 	s.turns[2] = func() { s.words.Limbo[0] = 4 }
 	s.turns[4] = func() { s.words.Limbo[0] = 0 }
 	Retire(s.do, 3)
-	s.did(t, reads(0, api.Epoch, 0, 3), reads(0, api.Limbo, 0, 2), loses(0, api.Limbo, 0, 2, 0, 4),
-		reads(0, api.Limbo, 0, 4), loses(0, api.Limbo, 0, 4, 0, 0),
-		reads(0, api.Limbo, 0, 0), writes(0, api.Link, 2, 0, 1<<32), swaps(0, api.Limbo, 0, 0, 0x300000003))
+	s.did(t, trial.Reads(0, api.Epoch, 0, 3), trial.Reads(0, api.Limbo, 0, 2), trial.Loses(0, api.Limbo, 0, 2, 0, 4),
+		trial.Reads(0, api.Limbo, 0, 4), trial.Loses(0, api.Limbo, 0, 4, 0, 0),
+		trial.Reads(0, api.Limbo, 0, 0), trial.Writes(0, api.Link, 2, 0, 1<<32), trial.Swaps(0, api.Limbo, 0, 0, 0x300000003))
 }
 
 // P5.1: Epoch isn't read again, and a list that is another epoch's by the time that it is put there is freed then.
@@ -131,10 +131,10 @@ func TestRetireLate(t *testing.T) {
 	s.turns[1] = func() { s.words.Epoch = 7 }
 	s.turns[3] = func() { s.words.Limbo[0] = 0x600000002 }
 	Retire(s.do, 3)
-	s.did(t, reads(0, api.Epoch, 0, 3), reads(0, api.Limbo, 0, 0), writes(0, api.Link, 2, 0, 1<<32), loses(0, api.Limbo, 0, 0, 0x300000003, 0x600000002),
-		reads(0, api.Limbo, 0, 0x600000002), swaps(0, api.Limbo, 0, 0x600000002, 0x600000000),
-		reads(0, api.Link, 1, 0), reads(0, api.Free, 0, 0), writes(0, api.Link, 1, 0, 0), swaps(0, api.Free, 0, 0, 1<<32|2),
-		reads(0, api.Limbo, 0, 0x600000000), writes(0, api.Link, 2, 1<<32, 1<<32), swaps(0, api.Limbo, 0, 0x600000000, 0x300000003))
+	s.did(t, trial.Reads(0, api.Epoch, 0, 3), trial.Reads(0, api.Limbo, 0, 0), trial.Writes(0, api.Link, 2, 0, 1<<32), trial.Loses(0, api.Limbo, 0, 0, 0x300000003, 0x600000002),
+		trial.Reads(0, api.Limbo, 0, 0x600000002), trial.Swaps(0, api.Limbo, 0, 0x600000002, 0x600000000),
+		trial.Reads(0, api.Link, 1, 0), trial.Reads(0, api.Free, 0, 0), trial.Writes(0, api.Link, 1, 0, 0), trial.Swaps(0, api.Free, 0, 0, 1<<32|2),
+		trial.Reads(0, api.Limbo, 0, 0x600000000), trial.Writes(0, api.Link, 2, 1<<32, 1<<32), trial.Swaps(0, api.Limbo, 0, 0x600000000, 0x300000003))
 }
 
 // P5.1: a chain goes on by the links that it read, while another one takes what was freed; a give-back that loses its race doesn't read the chain's link again.
@@ -145,7 +145,7 @@ func TestFreeLoses(t *testing.T) {
 	s.turns[9] = func() { s.words.Free = 0x800000000 }
 	s.turns[11] = func() { s.words.Link[0] = 0 }
 	Collect(s.do, 2)
-	s.did(t, reads(0, api.Epoch, 0, 2), reads(0, api.Pin, 0, 0), reads(0, api.Pin, 1, 0), swaps(0, api.Epoch, 0, 2, 3), reads(0, api.Epoch, 0, 3), reads(0, api.Limbo, 1, 0))
+	s.did(t, trial.Reads(0, api.Epoch, 0, 2), trial.Reads(0, api.Pin, 0, 0), trial.Reads(0, api.Pin, 1, 0), trial.Swaps(0, api.Epoch, 0, 2, 3), trial.Reads(0, api.Epoch, 0, 3), trial.Reads(0, api.Limbo, 1, 0))
 
 	s = starts(1)
 	s.words.Free, s.words.Limbo[0] = 4, 1
@@ -153,10 +153,10 @@ func TestFreeLoses(t *testing.T) {
 	s.turns[10] = func() { s.words.Free = 0x800000000 }
 	s.turns[13] = func() { s.words.Link[0] = 0 }
 	Collect(s.do, 2)
-	s.did(t, reads(0, api.Epoch, 0, 1), reads(0, api.Pin, 0, 0), reads(0, api.Pin, 1, 0), swaps(0, api.Epoch, 0, 1, 2), reads(0, api.Epoch, 0, 2), reads(0, api.Limbo, 0, 1), swaps(0, api.Limbo, 0, 1, 0),
-		reads(0, api.Link, 0, 0x300000002), reads(0, api.Free, 0, 4), writes(0, api.Link, 0, 0x300000002, 0x300000004), loses(0, api.Free, 0, 4, 0x100000001, 0x800000000),
-		reads(0, api.Free, 0, 0x800000000), writes(0, api.Link, 0, 0x300000004, 0x300000000), swaps(0, api.Free, 0, 0x800000000, 0x900000001),
-		reads(0, api.Link, 1, 0x400000000), reads(0, api.Free, 0, 0x900000001), writes(0, api.Link, 1, 0x400000000, 0x400000001), swaps(0, api.Free, 0, 0x900000001, 0xa00000002))
+	s.did(t, trial.Reads(0, api.Epoch, 0, 1), trial.Reads(0, api.Pin, 0, 0), trial.Reads(0, api.Pin, 1, 0), trial.Swaps(0, api.Epoch, 0, 1, 2), trial.Reads(0, api.Epoch, 0, 2), trial.Reads(0, api.Limbo, 0, 1), trial.Swaps(0, api.Limbo, 0, 1, 0),
+		trial.Reads(0, api.Link, 0, 0x300000002), trial.Reads(0, api.Free, 0, 4), trial.Writes(0, api.Link, 0, 0x300000002, 0x300000004), trial.Loses(0, api.Free, 0, 4, 0x100000001, 0x800000000),
+		trial.Reads(0, api.Free, 0, 0x800000000), trial.Writes(0, api.Link, 0, 0x300000004, 0x300000000), trial.Swaps(0, api.Free, 0, 0x800000000, 0x900000001),
+		trial.Reads(0, api.Link, 1, 0x400000000), trial.Reads(0, api.Free, 0, 0x900000001), trial.Writes(0, api.Link, 1, 0x400000000, 0x400000001), trial.Swaps(0, api.Free, 0, 0x900000001, 0xa00000002))
 }
 
 // P5.1: what is collected must have been retired two epochs ago, or earlier; a high number isn't taken modulo 2^32 then, the epoch neither.
@@ -191,10 +191,10 @@ func TestCollectOld(t *testing.T) {
 		s := starts(c.epoch - 1)
 		s.words.Limbo[c.at], s.words.Link[int(max(c.limbo&top, 1))-1] = c.limbo, 0x500000000
 		Collect(s.do, 1)
-		steps := []api.Step{reads(0, api.Epoch, 0, c.epoch-1), reads(0, api.Pin, 0, 0), swaps(0, api.Epoch, 0, c.epoch-1, c.epoch), reads(0, api.Epoch, 0, c.epoch), reads(0, api.Limbo, c.at, c.limbo)}
+		steps := []api.Step{trial.Reads(0, api.Epoch, 0, c.epoch-1), trial.Reads(0, api.Pin, 0, 0), trial.Swaps(0, api.Epoch, 0, c.epoch-1, c.epoch), trial.Reads(0, api.Epoch, 0, c.epoch), trial.Reads(0, api.Limbo, c.at, c.limbo)}
 		if low := c.limbo & top; c.frees {
-			steps = append(steps, swaps(0, api.Limbo, c.at, c.limbo, c.limbo-low),
-				reads(0, api.Link, int(low)-1, 0x500000000), reads(0, api.Free, 0, 0), writes(0, api.Link, int(low)-1, 0x500000000, 0x500000000), swaps(0, api.Free, 0, 0, 1<<32|low))
+			steps = append(steps, trial.Swaps(0, api.Limbo, c.at, c.limbo, c.limbo-low),
+				trial.Reads(0, api.Link, int(low)-1, 0x500000000), trial.Reads(0, api.Free, 0, 0), trial.Writes(0, api.Link, int(low)-1, 0x500000000, 0x500000000), trial.Swaps(0, api.Free, 0, 0, 1<<32|low))
 		}
 		s.did(t, steps...)
 	}
@@ -223,16 +223,16 @@ func TestCollectPins(t *testing.T) {
 	} {
 		s := starts(c.epoch)
 		s.words.Pins = c.pins
-		steps := []api.Step{reads(0, api.Epoch, 0, c.epoch)}
+		steps := []api.Step{trial.Reads(0, api.Epoch, 0, c.epoch)}
 		for n := range c.read {
-			steps = append(steps, reads(0, api.Pin, n, c.pins[n]))
+			steps = append(steps, trial.Reads(0, api.Pin, n, c.pins[n]))
 		}
 		now := c.epoch
 		if c.goes {
 			now++
-			steps = append(steps, swaps(0, api.Epoch, 0, c.epoch, now))
+			steps = append(steps, trial.Swaps(0, api.Epoch, 0, c.epoch, now))
 		}
-		steps = append(steps, reads(0, api.Epoch, 0, now), reads(0, api.Limbo, int((now+1)%3), 0))
+		steps = append(steps, trial.Reads(0, api.Epoch, 0, now), trial.Reads(0, api.Limbo, int((now+1)%3), 0))
 		Collect(s.do, 2)
 		s.did(t, steps...)
 	}
@@ -246,13 +246,13 @@ func TestCollectLate(t *testing.T) {
 	s.turns[2] = func() { s.words.Epoch = 6 }
 	s.turns[4] = func() { s.words.Limbo[1] = 0x400000003 }
 	Collect(s.do, 2)
-	s.did(t, reads(0, api.Epoch, 0, 4), reads(0, api.Pin, 0, 4), reads(0, api.Epoch, 0, 6), reads(0, api.Limbo, 1, 0x400000001), loses(0, api.Limbo, 1, 0x400000001, 0x400000000, 0x400000003))
+	s.did(t, trial.Reads(0, api.Epoch, 0, 4), trial.Reads(0, api.Pin, 0, 4), trial.Reads(0, api.Epoch, 0, 6), trial.Reads(0, api.Limbo, 1, 0x400000001), trial.Loses(0, api.Limbo, 1, 0x400000001, 0x400000000, 0x400000003))
 
 	// Epoch goes on ahead of the last look: what is there then was retired just now.
 	s = starts(4)
 	s.turns[5] = func() { s.words.Epoch, s.words.Limbo[0] = 6, 0x600000002 }
 	Collect(s.do, 2)
-	s.did(t, reads(0, api.Epoch, 0, 4), reads(0, api.Pin, 0, 0), reads(0, api.Pin, 1, 0), swaps(0, api.Epoch, 0, 4, 5), reads(0, api.Epoch, 0, 5), reads(0, api.Limbo, 0, 0x600000002))
+	s.did(t, trial.Reads(0, api.Epoch, 0, 4), trial.Reads(0, api.Pin, 0, 0), trial.Reads(0, api.Pin, 1, 0), trial.Swaps(0, api.Epoch, 0, 4, 5), trial.Reads(0, api.Epoch, 0, 5), trial.Reads(0, api.Limbo, 0, 0x600000002))
 }
 
 // P5.1: a call of a layer above does all four by a machine of its own, among other accesses.
@@ -269,7 +269,7 @@ func TestWithin(t *testing.T) {
 			return api.Empty, uint32(was >> 32)
 		})
 	}
-	x, e := drive.Run(ring(2, 2), [][]api.Op{nil, {{}}}, turns(1, 40), begin)
+	x, e := drive.Run(ring(2, 2), [][]api.Op{nil, {{}}}, trial.Turns(1, 40), begin)
 	if e != api.OK || len(x.Calls) != 1 || x.Calls[0] != (api.Call{Thread: 1, From: 0, To: 26, Code: api.Empty, Out: 4}) || x.End.Free != 0x100000002 || x.End.Link[1] != 0x400000000 || x.End.Epoch != 2 {
 		t.Errorf("%+v %v", x, e)
 	}

@@ -24,35 +24,6 @@ func ring(threads, segments int) api.Config {
 	return api.Config{Kind: api.Ring, K: 1, T: threads, M: segments}
 }
 
-// turns are picks of a thread, so many, then of another one, so many, and so on.
-func turns(l ...int) []api.Pick {
-	var threads []int
-	for i := 0; i < len(l); i += 2 {
-		threads = append(threads, slices.Repeat([]int{l[i]}, l[i+1])...)
-	}
-	return trial.Picked(threads...)
-}
-
-// reads is the step of a thread that read was.
-func reads(thread, area, at int, was uint64) api.Step {
-	return trial.Did(thread, trial.Read(area, at), was, false)
-}
-
-// writes is the step of a thread that wrote w where was was.
-func writes(thread, area, at int, was, w uint64) api.Step {
-	return trial.Did(thread, trial.Write(area, at, w), was, true)
-}
-
-// swaps is the step of a thread that swapped old for w.
-func swaps(thread, area, at int, old, w uint64) api.Step {
-	return trial.Did(thread, trial.Swap(area, at, old, w), old, true)
-}
-
-// loses is the step of a thread that didn't swap old for w, as was was there.
-func loses(thread, area, at int, old, w, was uint64) api.Step {
-	return trial.Did(thread, trial.Swap(area, at, old, w), was, false)
-}
-
 // ran holds a run against its steps from the one of that number on, and answers its trace; the words at the end must be those behind all steps.
 func ran(t *testing.T, c api.Config, l [][]api.Op, picks []api.Pick, from int, steps ...api.Step) api.Trace {
 	t.Helper()
@@ -80,14 +51,14 @@ func came(t *testing.T, x api.Trace, calls ...api.Call) {
 // P5.1, P5.2 and the chapter's example: a segment that is retired is free behind three times Collect.
 func TestAlone(t *testing.T) {
 	l := [][]api.Op{{hold(), retire(1), drop(), collect(), collect(), collect()}}
-	x := ran(t, ring(1, 2), l, turns(0, 40), 0,
-		reads(0, api.Epoch, 0, 0), writes(0, api.Pin, 0, 0, 1), reads(0, api.Epoch, 0, 0),
-		reads(0, api.Epoch, 0, 0), reads(0, api.Limbo, 0, 0), writes(0, api.Link, 1, 0, 1<<32), swaps(0, api.Limbo, 0, 0, 2),
-		writes(0, api.Pin, 0, 1, 0),
-		reads(0, api.Epoch, 0, 0), reads(0, api.Pin, 0, 0), swaps(0, api.Epoch, 0, 0, 1), reads(0, api.Epoch, 0, 1), reads(0, api.Limbo, 2, 0),
-		reads(0, api.Epoch, 0, 1), reads(0, api.Pin, 0, 0), swaps(0, api.Epoch, 0, 1, 2), reads(0, api.Epoch, 0, 2), reads(0, api.Limbo, 0, 2), swaps(0, api.Limbo, 0, 2, 0),
-		reads(0, api.Link, 1, 1<<32), reads(0, api.Free, 0, 0), writes(0, api.Link, 1, 1<<32, 1<<32), swaps(0, api.Free, 0, 0, 1<<32|2),
-		reads(0, api.Epoch, 0, 2), reads(0, api.Pin, 0, 0), swaps(0, api.Epoch, 0, 2, 3), reads(0, api.Epoch, 0, 3), reads(0, api.Limbo, 1, 0))
+	x := ran(t, ring(1, 2), l, trial.Turns(0, 40), 0,
+		trial.Reads(0, api.Epoch, 0, 0), trial.Writes(0, api.Pin, 0, 0, 1), trial.Reads(0, api.Epoch, 0, 0),
+		trial.Reads(0, api.Epoch, 0, 0), trial.Reads(0, api.Limbo, 0, 0), trial.Writes(0, api.Link, 1, 0, 1<<32), trial.Swaps(0, api.Limbo, 0, 0, 2),
+		trial.Writes(0, api.Pin, 0, 1, 0),
+		trial.Reads(0, api.Epoch, 0, 0), trial.Reads(0, api.Pin, 0, 0), trial.Swaps(0, api.Epoch, 0, 0, 1), trial.Reads(0, api.Epoch, 0, 1), trial.Reads(0, api.Limbo, 2, 0),
+		trial.Reads(0, api.Epoch, 0, 1), trial.Reads(0, api.Pin, 0, 0), trial.Swaps(0, api.Epoch, 0, 1, 2), trial.Reads(0, api.Epoch, 0, 2), trial.Reads(0, api.Limbo, 0, 2), trial.Swaps(0, api.Limbo, 0, 2, 0),
+		trial.Reads(0, api.Link, 1, 1<<32), trial.Reads(0, api.Free, 0, 0), trial.Writes(0, api.Link, 1, 1<<32, 1<<32), trial.Swaps(0, api.Free, 0, 0, 1<<32|2),
+		trial.Reads(0, api.Epoch, 0, 2), trial.Reads(0, api.Pin, 0, 0), trial.Swaps(0, api.Epoch, 0, 2, 3), trial.Reads(0, api.Epoch, 0, 3), trial.Reads(0, api.Limbo, 1, 0))
 	came(t, x,
 		api.Call{Kind: api.Hold, Val: 7, From: 0, To: 2},
 		api.Call{Kind: api.Retire, Val: 1, From: 3, To: 6},
@@ -100,12 +71,12 @@ func TestAlone(t *testing.T) {
 // P5.1: a thread pins itself anew, each time that Epoch went on meanwhile, by what it read last.
 func TestHoldAgain(t *testing.T) {
 	l := [][]api.Op{{hold()}, {collect(), collect()}}
-	x := ran(t, ring(2, 2), l, turns(0, 1, 1, 6, 0, 3, 1, 6, 0, 9), 0,
-		reads(0, api.Epoch, 0, 0),
-		reads(1, api.Epoch, 0, 0), reads(1, api.Pin, 0, 0), reads(1, api.Pin, 1, 0), swaps(1, api.Epoch, 0, 0, 1), reads(1, api.Epoch, 0, 1), reads(1, api.Limbo, 2, 0),
-		writes(0, api.Pin, 0, 0, 1), reads(0, api.Epoch, 0, 1), writes(0, api.Pin, 0, 1, 2),
-		reads(1, api.Epoch, 0, 1), reads(1, api.Pin, 0, 2), reads(1, api.Pin, 1, 0), swaps(1, api.Epoch, 0, 1, 2), reads(1, api.Epoch, 0, 2), reads(1, api.Limbo, 0, 0),
-		reads(0, api.Epoch, 0, 2), writes(0, api.Pin, 0, 2, 3), reads(0, api.Epoch, 0, 2))
+	x := ran(t, ring(2, 2), l, trial.Turns(0, 1, 1, 6, 0, 3, 1, 6, 0, 9), 0,
+		trial.Reads(0, api.Epoch, 0, 0),
+		trial.Reads(1, api.Epoch, 0, 0), trial.Reads(1, api.Pin, 0, 0), trial.Reads(1, api.Pin, 1, 0), trial.Swaps(1, api.Epoch, 0, 0, 1), trial.Reads(1, api.Epoch, 0, 1), trial.Reads(1, api.Limbo, 2, 0),
+		trial.Writes(0, api.Pin, 0, 0, 1), trial.Reads(0, api.Epoch, 0, 1), trial.Writes(0, api.Pin, 0, 1, 2),
+		trial.Reads(1, api.Epoch, 0, 1), trial.Reads(1, api.Pin, 0, 2), trial.Reads(1, api.Pin, 1, 0), trial.Swaps(1, api.Epoch, 0, 1, 2), trial.Reads(1, api.Epoch, 0, 2), trial.Reads(1, api.Limbo, 0, 0),
+		trial.Reads(0, api.Epoch, 0, 2), trial.Writes(0, api.Pin, 0, 2, 3), trial.Reads(0, api.Epoch, 0, 2))
 	came(t, x,
 		api.Call{Thread: 0, Kind: api.Hold, Val: 7, From: 0, To: 18},
 		api.Call{Thread: 1, Kind: api.Collect, Val: 9, From: 1, To: 6},
@@ -115,21 +86,21 @@ func TestHoldAgain(t *testing.T) {
 // P5.1: who is pinned pins itself as anybody does; who isn't lets go likewise; a thread's pin is its own.
 func TestHoldTwice(t *testing.T) {
 	l := [][]api.Op{nil, {drop(), hold(), hold(), drop(), drop()}, {hold()}}
-	ran(t, ring(3, 2), l, turns(1, 1, 2, 9, 1, 20), 0,
-		writes(1, api.Pin, 1, 0, 0),
-		reads(2, api.Epoch, 0, 0), writes(2, api.Pin, 2, 0, 1), reads(2, api.Epoch, 0, 0),
-		reads(1, api.Epoch, 0, 0), writes(1, api.Pin, 1, 0, 1), reads(1, api.Epoch, 0, 0),
-		reads(1, api.Epoch, 0, 0), writes(1, api.Pin, 1, 1, 1), reads(1, api.Epoch, 0, 0),
-		writes(1, api.Pin, 1, 1, 0), writes(1, api.Pin, 1, 0, 0))
+	ran(t, ring(3, 2), l, trial.Turns(1, 1, 2, 9, 1, 20), 0,
+		trial.Writes(1, api.Pin, 1, 0, 0),
+		trial.Reads(2, api.Epoch, 0, 0), trial.Writes(2, api.Pin, 2, 0, 1), trial.Reads(2, api.Epoch, 0, 0),
+		trial.Reads(1, api.Epoch, 0, 0), trial.Writes(1, api.Pin, 1, 0, 1), trial.Reads(1, api.Epoch, 0, 0),
+		trial.Reads(1, api.Epoch, 0, 0), trial.Writes(1, api.Pin, 1, 1, 1), trial.Reads(1, api.Epoch, 0, 0),
+		trial.Writes(1, api.Pin, 1, 1, 0), trial.Writes(1, api.Pin, 1, 0, 0))
 }
 
 // P5.1: in one epoch segments are put one ahead of the other; one that is retired once more leads to itself.
 func TestRetireOnto(t *testing.T) {
 	l := [][]api.Op{{retire(1), retire(0), retire(0)}}
-	x := ran(t, ring(1, 3), l, turns(0, 20), 0,
-		reads(0, api.Epoch, 0, 0), reads(0, api.Limbo, 0, 0), writes(0, api.Link, 1, 0, 1<<32), swaps(0, api.Limbo, 0, 0, 2),
-		reads(0, api.Epoch, 0, 0), reads(0, api.Limbo, 0, 2), writes(0, api.Link, 0, 0, 1<<32|2), swaps(0, api.Limbo, 0, 2, 1),
-		reads(0, api.Epoch, 0, 0), reads(0, api.Limbo, 0, 1), writes(0, api.Link, 0, 1<<32|2, 1<<32|1), swaps(0, api.Limbo, 0, 1, 1))
+	x := ran(t, ring(1, 3), l, trial.Turns(0, 20), 0,
+		trial.Reads(0, api.Epoch, 0, 0), trial.Reads(0, api.Limbo, 0, 0), trial.Writes(0, api.Link, 1, 0, 1<<32), trial.Swaps(0, api.Limbo, 0, 0, 2),
+		trial.Reads(0, api.Epoch, 0, 0), trial.Reads(0, api.Limbo, 0, 2), trial.Writes(0, api.Link, 0, 0, 1<<32|2), trial.Swaps(0, api.Limbo, 0, 2, 1),
+		trial.Reads(0, api.Epoch, 0, 0), trial.Reads(0, api.Limbo, 0, 1), trial.Writes(0, api.Link, 0, 1<<32|2, 1<<32|1), trial.Swaps(0, api.Limbo, 0, 1, 1))
 	came(t, x,
 		api.Call{Kind: api.Retire, Val: 1, From: 0, To: 3},
 		api.Call{Kind: api.Retire, Val: 0, From: 4, To: 7},
@@ -139,23 +110,23 @@ func TestRetireOnto(t *testing.T) {
 // P5.1: a Retire that loses the race for limbo reads that list again, Epoch not, and writes the link anew.
 func TestRetireLoses(t *testing.T) {
 	l := [][]api.Op{{retire(0)}, {retire(1), retire(2)}}
-	ran(t, ring(2, 3), l, turns(0, 3, 1, 4, 0, 2, 1, 4, 0, 9), 0,
-		reads(0, api.Epoch, 0, 0), reads(0, api.Limbo, 0, 0), writes(0, api.Link, 0, 0, 1<<32),
-		reads(1, api.Epoch, 0, 0), reads(1, api.Limbo, 0, 0), writes(1, api.Link, 1, 0, 1<<32), swaps(1, api.Limbo, 0, 0, 2),
-		loses(0, api.Limbo, 0, 0, 1, 2), reads(0, api.Limbo, 0, 2),
-		reads(1, api.Epoch, 0, 0), reads(1, api.Limbo, 0, 2), writes(1, api.Link, 2, 0, 1<<32|2), swaps(1, api.Limbo, 0, 2, 3),
-		writes(0, api.Link, 0, 1<<32, 1<<32|2), loses(0, api.Limbo, 0, 2, 1, 3),
-		reads(0, api.Limbo, 0, 3), writes(0, api.Link, 0, 1<<32|2, 1<<32|3), swaps(0, api.Limbo, 0, 3, 1))
+	ran(t, ring(2, 3), l, trial.Turns(0, 3, 1, 4, 0, 2, 1, 4, 0, 9), 0,
+		trial.Reads(0, api.Epoch, 0, 0), trial.Reads(0, api.Limbo, 0, 0), trial.Writes(0, api.Link, 0, 0, 1<<32),
+		trial.Reads(1, api.Epoch, 0, 0), trial.Reads(1, api.Limbo, 0, 0), trial.Writes(1, api.Link, 1, 0, 1<<32), trial.Swaps(1, api.Limbo, 0, 0, 2),
+		trial.Loses(0, api.Limbo, 0, 0, 1, 2), trial.Reads(0, api.Limbo, 0, 2),
+		trial.Reads(1, api.Epoch, 0, 0), trial.Reads(1, api.Limbo, 0, 2), trial.Writes(1, api.Link, 2, 0, 1<<32|2), trial.Swaps(1, api.Limbo, 0, 2, 3),
+		trial.Writes(0, api.Link, 0, 1<<32, 1<<32|2), trial.Loses(0, api.Limbo, 0, 2, 1, 3),
+		trial.Reads(0, api.Limbo, 0, 3), trial.Writes(0, api.Link, 0, 1<<32|2, 1<<32|3), trial.Swaps(0, api.Limbo, 0, 3, 1))
 }
 
 // P5.1: what a list of limbo has of another epoch is freed, ahead of what is put there. (The first Retire puts it there in the epoch 3, by the epoch 0 that it read.)
 func TestRetireOld(t *testing.T) {
 	l := [][]api.Op{{retire(1), retire(2)}, {collect(), collect(), collect()}}
-	x := ran(t, ring(2, 3), l, turns(0, 1, 1, 18, 0, 20), 19,
-		reads(0, api.Limbo, 0, 0), writes(0, api.Link, 1, 0, 1<<32), swaps(0, api.Limbo, 0, 0, 2),
-		reads(0, api.Epoch, 0, 3), reads(0, api.Limbo, 0, 2), swaps(0, api.Limbo, 0, 2, 0),
-		reads(0, api.Link, 1, 1<<32), reads(0, api.Free, 0, 0), writes(0, api.Link, 1, 1<<32, 1<<32), swaps(0, api.Free, 0, 0, 1<<32|2),
-		reads(0, api.Limbo, 0, 0), writes(0, api.Link, 2, 0, 1<<32), swaps(0, api.Limbo, 0, 0, 3<<32|3))
+	x := ran(t, ring(2, 3), l, trial.Turns(0, 1, 1, 18, 0, 20), 19,
+		trial.Reads(0, api.Limbo, 0, 0), trial.Writes(0, api.Link, 1, 0, 1<<32), trial.Swaps(0, api.Limbo, 0, 0, 2),
+		trial.Reads(0, api.Epoch, 0, 3), trial.Reads(0, api.Limbo, 0, 2), trial.Swaps(0, api.Limbo, 0, 2, 0),
+		trial.Reads(0, api.Link, 1, 1<<32), trial.Reads(0, api.Free, 0, 0), trial.Writes(0, api.Link, 1, 1<<32, 1<<32), trial.Swaps(0, api.Free, 0, 0, 1<<32|2),
+		trial.Reads(0, api.Limbo, 0, 0), trial.Writes(0, api.Link, 2, 0, 1<<32), trial.Swaps(0, api.Limbo, 0, 0, 3<<32|3))
 	came(t, x,
 		api.Call{Thread: 0, Kind: api.Retire, Val: 1, From: 0, To: 21},
 		api.Call{Thread: 1, Kind: api.Collect, Val: 9, From: 1, To: 6},
@@ -167,24 +138,24 @@ func TestRetireOld(t *testing.T) {
 // P5.1: pins are looked at from the first one on, up to one of another epoch; then limbo is looked at all the same.
 func TestCollectPinned(t *testing.T) {
 	l := [][]api.Op{{hold()}, {hold()}, {hold()}, {collect(), collect()}}
-	ran(t, ring(4, 2), l, turns(1, 3, 3, 8, 0, 3, 2, 3, 3, 9), 3,
-		reads(3, api.Epoch, 0, 0), reads(3, api.Pin, 0, 0), reads(3, api.Pin, 1, 1), reads(3, api.Pin, 2, 0), reads(3, api.Pin, 3, 0),
-		swaps(3, api.Epoch, 0, 0, 1), reads(3, api.Epoch, 0, 1), reads(3, api.Limbo, 2, 0),
-		reads(0, api.Epoch, 0, 1), writes(0, api.Pin, 0, 0, 2), reads(0, api.Epoch, 0, 1),
-		reads(2, api.Epoch, 0, 1), writes(2, api.Pin, 2, 0, 2), reads(2, api.Epoch, 0, 1),
-		reads(3, api.Epoch, 0, 1), reads(3, api.Pin, 0, 2), reads(3, api.Pin, 1, 1), reads(3, api.Epoch, 0, 1), reads(3, api.Limbo, 2, 0))
+	ran(t, ring(4, 2), l, trial.Turns(1, 3, 3, 8, 0, 3, 2, 3, 3, 9), 3,
+		trial.Reads(3, api.Epoch, 0, 0), trial.Reads(3, api.Pin, 0, 0), trial.Reads(3, api.Pin, 1, 1), trial.Reads(3, api.Pin, 2, 0), trial.Reads(3, api.Pin, 3, 0),
+		trial.Swaps(3, api.Epoch, 0, 0, 1), trial.Reads(3, api.Epoch, 0, 1), trial.Reads(3, api.Limbo, 2, 0),
+		trial.Reads(0, api.Epoch, 0, 1), trial.Writes(0, api.Pin, 0, 0, 2), trial.Reads(0, api.Epoch, 0, 1),
+		trial.Reads(2, api.Epoch, 0, 1), trial.Writes(2, api.Pin, 2, 0, 2), trial.Reads(2, api.Epoch, 0, 1),
+		trial.Reads(3, api.Epoch, 0, 1), trial.Reads(3, api.Pin, 0, 2), trial.Reads(3, api.Pin, 1, 1), trial.Reads(3, api.Epoch, 0, 1), trial.Reads(3, api.Limbo, 2, 0))
 }
 
 // P5.1: a Collect that loses the race for Epoch goes on by the epoch that is then; one that loses that for limbo frees nothing.
 func TestCollectLoses(t *testing.T) {
 	l := [][]api.Op{{retire(1), collect()}, {collect(), collect()}}
-	x := ran(t, ring(2, 2), l, turns(0, 7, 1, 11, 0, 3, 1, 9, 0, 9), 7,
-		reads(1, api.Epoch, 0, 0), reads(1, api.Pin, 0, 0), reads(1, api.Pin, 1, 0), swaps(1, api.Epoch, 0, 0, 1), reads(1, api.Epoch, 0, 1), reads(1, api.Limbo, 2, 0),
-		reads(1, api.Epoch, 0, 1), reads(1, api.Pin, 0, 0), reads(1, api.Pin, 1, 0), swaps(1, api.Epoch, 0, 1, 2), reads(1, api.Epoch, 0, 2),
-		loses(0, api.Epoch, 0, 0, 1, 2), reads(0, api.Epoch, 0, 2), reads(0, api.Limbo, 0, 2),
-		reads(1, api.Limbo, 0, 2), swaps(1, api.Limbo, 0, 2, 0),
-		reads(1, api.Link, 1, 1<<32), reads(1, api.Free, 0, 0), writes(1, api.Link, 1, 1<<32, 1<<32), swaps(1, api.Free, 0, 0, 1<<32|2),
-		loses(0, api.Limbo, 0, 2, 0, 0))
+	x := ran(t, ring(2, 2), l, trial.Turns(0, 7, 1, 11, 0, 3, 1, 9, 0, 9), 7,
+		trial.Reads(1, api.Epoch, 0, 0), trial.Reads(1, api.Pin, 0, 0), trial.Reads(1, api.Pin, 1, 0), trial.Swaps(1, api.Epoch, 0, 0, 1), trial.Reads(1, api.Epoch, 0, 1), trial.Reads(1, api.Limbo, 2, 0),
+		trial.Reads(1, api.Epoch, 0, 1), trial.Reads(1, api.Pin, 0, 0), trial.Reads(1, api.Pin, 1, 0), trial.Swaps(1, api.Epoch, 0, 1, 2), trial.Reads(1, api.Epoch, 0, 2),
+		trial.Loses(0, api.Epoch, 0, 0, 1, 2), trial.Reads(0, api.Epoch, 0, 2), trial.Reads(0, api.Limbo, 0, 2),
+		trial.Reads(1, api.Limbo, 0, 2), trial.Swaps(1, api.Limbo, 0, 2, 0),
+		trial.Reads(1, api.Link, 1, 1<<32), trial.Reads(1, api.Free, 0, 0), trial.Writes(1, api.Link, 1, 1<<32, 1<<32), trial.Swaps(1, api.Free, 0, 0, 1<<32|2),
+		trial.Loses(0, api.Limbo, 0, 2, 0, 0))
 	came(t, x,
 		api.Call{Thread: 0, Kind: api.Retire, Val: 1, From: 0, To: 3},
 		api.Call{Thread: 0, Kind: api.Collect, Val: 9, From: 4, To: 27},
@@ -197,8 +168,8 @@ func TestRetireModulo(t *testing.T) {
 	for _, segments := range []int{2, 3, 7, 63, 64} {
 		for _, val := range []uint32{0, 1, 2, 3, 6, 7, 62, 63, 64, 65, 1000, 1<<31 - 1, 1 << 31, 1<<31 + 1, math.MaxUint32 - 1, math.MaxUint32} {
 			h := uint64(val) % uint64(segments)
-			x := ran(t, ring(1, segments), [][]api.Op{{retire(val)}}, turns(0, 9), 0,
-				reads(0, api.Epoch, 0, 0), reads(0, api.Limbo, 0, 0), writes(0, api.Link, int(h), 0, 1<<32), swaps(0, api.Limbo, 0, 0, h+1))
+			x := ran(t, ring(1, segments), [][]api.Op{{retire(val)}}, trial.Turns(0, 9), 0,
+				trial.Reads(0, api.Epoch, 0, 0), trial.Reads(0, api.Limbo, 0, 0), trial.Writes(0, api.Link, int(h), 0, 1<<32), trial.Swaps(0, api.Limbo, 0, 0, h+1))
 			came(t, x, api.Call{Kind: api.Retire, Val: val, From: 0, To: 3})
 		}
 	}
@@ -208,8 +179,8 @@ func TestRetireModulo(t *testing.T) {
 func TestKinds(t *testing.T) {
 	for _, kind := range []int{api.Queue, api.Stack} {
 		c := api.Config{Kind: kind, K: 3, T: 1, M: 4}
-		ran(t, c, [][]api.Op{{retire(2)}}, turns(0, 9), 0,
-			reads(0, api.Epoch, 0, 0), reads(0, api.Limbo, 0, 0), writes(0, api.Link, 2, 4, 1<<32), swaps(0, api.Limbo, 0, 0, 3))
+		ran(t, c, [][]api.Op{{retire(2)}}, trial.Turns(0, 9), 0,
+			trial.Reads(0, api.Epoch, 0, 0), trial.Reads(0, api.Limbo, 0, 0), trial.Writes(0, api.Link, 2, 4, 1<<32), trial.Swaps(0, api.Limbo, 0, 0, 3))
 	}
 }
 
@@ -217,12 +188,12 @@ func TestKinds(t *testing.T) {
 func TestNotOver(t *testing.T) {
 	l := [][]api.Op{{hold(), drop()}, nil, {retire(1)}, {collect()}}
 	x := ran(t, ring(4, 2), l, trial.Picked(2, -1, 0, 4, 1, 0, 2, math.MinInt, math.MaxInt), 0,
-		reads(2, api.Epoch, 0, 0), reads(0, api.Epoch, 0, 0), writes(0, api.Pin, 0, 0, 1), reads(2, api.Limbo, 0, 0))
+		trial.Reads(2, api.Epoch, 0, 0), trial.Reads(0, api.Epoch, 0, 0), trial.Writes(0, api.Pin, 0, 0, 1), trial.Reads(2, api.Limbo, 0, 0))
 	came(t, x,
 		api.Call{Thread: 2, Kind: api.Retire, Val: 1, From: 0, To: -1},
 		api.Call{Thread: 0, Kind: api.Hold, Val: 7, From: 1, To: -1})
 	came(t, ran(t, ring(4, 2), l, nil, 0))
-	came(t, ran(t, ring(2, 2), [][]api.Op{nil, {}}, turns(0, 3, 1, 3), 0))
+	came(t, ran(t, ring(2, 2), [][]api.Op{nil, {}}, trial.Turns(0, 3, 1, 3), 0))
 }
 
 // nothing holds a run against nothing, and Arg.
@@ -255,7 +226,7 @@ func TestOtherKind(t *testing.T) {
 			{nil, {o, retire(1)}},
 			{{retire(0)}, {collect(), o, collect()}},
 		} {
-			for _, picks := range [][]api.Pick{nil, turns(0, 1), turns(0, 9, 1, 9)} {
+			for _, picks := range [][]api.Pick{nil, trial.Turns(0, 1), trial.Turns(0, 9, 1, 9)} {
 				nothing(t, trial.Input{Config: ring(2, 2), Calls: l, Picks: picks})
 			}
 		}
@@ -264,7 +235,7 @@ func TestOtherKind(t *testing.T) {
 
 // Rule 3: what is handed in isn't changed, its spare room neither, and answers share nothing.
 func TestOwn(t *testing.T) {
-	n := trial.Input{Config: ring(2, 2), Calls: [][]api.Op{{hold(), retire(1), drop()}, {collect()}}, Picks: turns(0, 2, 1, 2, 0, 5, 1, 3)}
+	n := trial.Input{Config: ring(2, 2), Calls: [][]api.Op{{hold(), retire(1), drop()}, {collect()}}, Picks: trial.Turns(0, 2, 1, 2, 0, 5, 1, 3)}
 	if s := trial.Meddles(Run, n, expected(n.Config, n.Calls, n.Picks)); s != "" {
 		t.Error(s)
 	}

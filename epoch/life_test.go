@@ -76,7 +76,7 @@ func TestPinnedKeeps(t *testing.T) {
 		for range 250 {
 			c := ring(threads, 2+next(15))
 			l := pinnedCalls(next, c)
-			x, e := Run(c, l, bursts(next, threads, 50*c.M))
+			x, e := Run(c, l, trial.Bursts(next, threads, 50*c.M))
 			if e != api.OK {
 				t.Fatal(e)
 			}
@@ -129,9 +129,9 @@ func TestThreeTimes(t *testing.T) {
 		for range 100 {
 			c := ring(threads, 2+next(15))
 			l := pinnedCalls(next, c)
-			picks := bursts(next, threads, next(40*c.M))
+			picks := trial.Bursts(next, threads, next(40*c.M))
 			for i := range threads {
-				picks = append(picks, turns(i, 80*c.M)...)
+				picks = append(picks, trial.Turns(i, 80*c.M)...)
 			}
 			before, e := Run(c, l, picks)
 			if e != api.OK {
@@ -141,7 +141,7 @@ func TestThreeTimes(t *testing.T) {
 				limbo += len(chained(before.End, w))
 			}
 			l[0] = append(l[0], collect(), collect(), collect())
-			x, e := Run(c, l, append(again(before), turns(0, 80*c.M)...))
+			x, e := Run(c, l, append(again(before), trial.Turns(0, 80*c.M)...))
 			if free := chained(x.End, x.End.Free); e != api.OK || len(free) != c.M || len(freed(t, x)) != c.M {
 				t.Fatalf("%d of %d are free: %+v %v", len(free), c.M, x, e)
 			}
