@@ -271,50 +271,6 @@ func expected(c api.Config, l [][]api.Op, picks []api.Pick) api.Trace {
 	return x
 }
 
-// anyCalls are calls, of each thread some; now more Puts, now more Gets.
-func anyCalls(next func(n int) int, threads int) [][]api.Op {
-	l := make([][]api.Op, threads)
-	for i := range l {
-		puts := 1 + next(9)
-		for range next(30) {
-			o := api.Op{Kind: api.Get, Val: uint32(next(1<<31)) * 2}
-			switch n := next(12); {
-			case n < puts:
-				o.Kind = api.Put
-			case n == 11:
-				o.Kind = api.Collect
-			}
-			l[i] = append(l[i], o)
-		}
-	}
-	return l
-}
-
-// counts counts what steps did, lest runs are held against each other in which nothing happens.
-func counts(n map[string]int, x api.Trace) {
-	areas := map[int]string{api.Slot: "slot", api.Next: "next", api.Tail: "tail", api.Head: "head", api.Free: "free", api.Limbo: "limbo", api.Epoch: "epoch"}
-	for _, s := range x.Steps {
-		switch {
-		case s.Access.Do == api.Swap && !s.Done:
-			n["a lost race for "+areas[s.Access.Area]]++
-		case s.Access.Do == api.Write && s.Access.Area == api.Slot && s.Access.New&trial.Low == 0:
-			n["a segment given back"]++
-		case s.Access.Do == api.Swap && s.Access.Area == api.Next && s.Access.New>>32 > 0:
-			n["a segment linked anew"]++
-		}
-	}
-	for _, call := range x.Calls {
-		switch {
-		case call.Kind == api.Get && call.Code == api.Empty:
-			n["an empty queue"]++
-		case call.Code == api.NoMem:
-			n["no segment"]++
-		case call.To < 0:
-			n["a call that isn't over"]++
-		}
-	}
-}
-
 // P6.1 and P6.2: runs of any calls, whatever is picked.
 func TestRunMixed(t *testing.T) {
 	next := trial.Mixed(10)
@@ -323,18 +279,18 @@ func TestRunMixed(t *testing.T) {
 		for _, threads := range []int{1, 2, 3, 5, 8} {
 			for i := range 150 {
 				c := queue(slots, threads, 2+next(8))
-				l, picks := anyCalls(next, threads), trial.Bursts(next, threads, i*5)
+				l, picks := trial.AnyCalls(next, threads), trial.Bursts(next, threads, i*5)
 				x, e := Run(c, l, picks)
 				if want := expected(c, l, picks); e != api.OK || !trial.Same(x, want) {
 					t.Fatalf("%v %v %v: %+v %v, not %+v", c, l, picks, x, e, want)
 				}
-				counts(n, x)
+				trial.Counts(n, x)
 			}
 		}
 	}
 	for _, what := range []string{
 		"a lost race for slot", "a lost race for next", "a lost race for tail", "a lost race for head", "a lost race for free", "a lost race for limbo", "a lost race for epoch",
-		"a segment given back", "a segment linked anew", "an empty queue", "no segment", "a call that isn't over",
+		"a segment given back", "a segment linked anew", "nothing to get", "no segment", "a call that isn't over",
 	} {
 		if n[what] < 20 {
 			t.Errorf("%s: just %d times", what, n[what])
