@@ -14,9 +14,10 @@ import (
 // Call is a Put or a Get that is on, and does its accesses.
 type Call struct {
 	access.Doer
-	Thread int
-	Size   int // how many slots a segment has
-	First  int // the number of the one, in each segment, that the call's slots begin with
+	Thread   int
+	Segments int // how many there are
+	Size     int // how many slots a segment has
+	First    int // the number of the one, in each segment, that the call's slots begin with
 }
 
 // Run: a run of Put, Get and Collect, of a config of a kind; put and get are how a Put and a Get go. Arg.
@@ -31,7 +32,7 @@ func Run(kind int, c api.Config, l [][]api.Op, picks []api.Pick, put func(c *Cal
 				return api.OK, 0
 			}
 			// The remainder is made of what has no sign: a draw from 2^31 on is none below 0, whatever int's size.
-			b := &Call{Doer: do, Thread: thread, Size: c.K, First: int(draw % uint32(c.K))}
+			b := &Call{Doer: do, Thread: thread, Segments: c.M, Size: c.K, First: int(draw % uint32(c.K))}
 			if o.Kind == api.Put {
 				return put(b, o.Val), 0
 			}

@@ -94,17 +94,17 @@ func put(c *Call, val uint32) api.Code {
 }
 
 func get(c *Call) (api.Code, uint32) {
-	c.Write(api.Head, 0, uint64(c.Thread)<<32|uint64(c.Size)<<16|uint64(c.First))
+	c.Write(api.Head, 0, uint64(c.Thread)<<48|uint64(c.Segments)<<32|uint64(c.Size)<<16|uint64(c.First))
 	return api.Wait, 9
 }
 
-// A run's Puts and Gets go as they are handed in, by the thread, the slots and the draw; a Collect as layer 5 tells.
+// A run's Puts and Gets go as they are handed in, by the thread, the segments, the slots and the draw; a Collect as layer 5 tells.
 func TestRun(t *testing.T) {
 	for kind := api.Queue; kind <= api.Stack; kind++ {
-		c := api.Config{Kind: kind, K: 3, T: 2, M: 2}
+		c := api.Config{Kind: kind, K: 3, T: 2, M: 5}
 		x, e := Run(kind, c, [][]api.Op{{trial.Put(7)}, {trial.Get(), trial.Collect()}}, trial.Drawn(1<<32-2, 0, 2, 1, 9), put, get)
 		head := x.Steps[1]
-		if e != api.OK || len(x.Steps) != 8 || x.Steps[0].Access != trial.Write(api.Tail, 0, 7) || head.Access != trial.Write(api.Head, 0, 1<<32|3<<16|2) {
+		if e != api.OK || len(x.Steps) != 8 || x.Steps[0].Access != trial.Write(api.Tail, 0, 7) || head.Access != trial.Write(api.Head, 0, 1<<48|5<<32|3<<16|2) {
 			t.Fatalf("%v %+v", e, x.Steps)
 		}
 		if want := []api.Call{

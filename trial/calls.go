@@ -113,6 +113,8 @@ func Counts(n map[string]int, x api.Trace) {
 			n["nothing to get"]++
 		case call.Code == api.NoMem:
 			n["no segment"]++
+		case call.Code == api.Full:
+			n["no room"]++
 		}
 	}
 }

@@ -13,7 +13,7 @@ type order struct {
 	tried  map[string]bool // which calls are behind, and which values there are: it didn't go on from there
 }
 
-// Orderly: is there an order of the calls in which a queue, or a stack, could have done them one by one, each getting one of the K oldest values, or of the K newest? As layer 9 it owes the others nothing.
+// Orderly: is there an order of the calls in which a queue, a ring, or a stack, could have done them one by one, each getting one of the K oldest values, or of the K newest? As layer 9 it owes the others nothing.
 func Orderly(c api.Config, calls []api.Call) bool {
 	o := order{c, calls, map[string]bool{}}
 	return o.goes(0, nil)
@@ -56,7 +56,9 @@ func (o *order) first(behind uint64, call api.Call) bool {
 func (o *order) does(behind uint64, row []uint32, call api.Call) bool {
 	switch {
 	case call.Kind == api.Put && call.Code == api.OK:
-		return o.goes(behind, append(row[:len(row):len(row)], call.Val))
+		return o.room(row, 0) && o.goes(behind, append(row[:len(row):len(row)], call.Val))
+	case call.Kind == api.Put && call.Code == api.Full:
+		return !o.room(row, 1) && o.goes(behind, row)
 	case call.Kind == api.Get && call.Code == api.OK:
 		for i, val := range row {
 			if o.near(row, i) && (call.To < 0 || call.Out == val) && o.goes(behind, append(row[:i:i], row[i+1:]...)) {
@@ -68,6 +70,11 @@ func (o *order) does(behind uint64, row []uint32, call api.Call) bool {
 		return len(row) == 0 && o.goes(behind, row)
 	}
 	return o.goes(behind, row)
+}
+
+// room: is there room for one more, of so many segments less? A ring alone has none at times.
+func (o *order) room(row []uint32, less int) bool {
+	return o.config.Kind != api.Ring || len(row) < (o.config.M-less)*o.config.K
 }
 
 // near: may the value of that number be got?

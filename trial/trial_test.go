@@ -53,12 +53,15 @@ func histories() []struct {
 	}
 }
 
-// What runs are held against is itself held against histories that may be, or may not.
+// What runs are held against is itself held against histories that may be, or may not. A ring that has room for all is a queue.
 func TestOrderly(t *testing.T) {
 	for i, h := range histories() {
 		for k := 1; k < 5; k++ {
 			if Orderly(api.Config{Kind: api.Queue, K: k}, h.calls) != (k >= h.queue) {
 				t.Errorf("%d: of a queue, with K %d %v", i, k, k < h.queue)
+			}
+			if Orderly(api.Config{Kind: api.Ring, K: k, M: 64}, h.calls) != (k >= h.queue) {
+				t.Errorf("%d: of a ring, with K %d %v", i, k, k < h.queue)
 			}
 			if Orderly(api.Config{Kind: api.Stack, K: k}, h.calls) != (k >= h.stack) {
 				t.Errorf("%d: of a stack, with K %d %v", i, k, k < h.stack)
@@ -75,7 +78,7 @@ func TestAhead(t *testing.T) {
 			continue
 		}
 		for k := 1; k < 5; k++ {
-			for kind, least := range map[int]int{api.Queue: h.queue, api.Stack: h.stack} {
+			for kind, least := range map[int]int{api.Queue: h.queue, api.Ring: h.queue, api.Stack: h.stack} {
 				c := api.Config{Kind: kind, K: k}
 				x := api.Trace{Calls: h.calls}
 				values, wrong := Lives(x)
@@ -86,6 +89,50 @@ func TestAhead(t *testing.T) {
 					t.Errorf("%d: of the kind %d, with K %d: %q", i, kind, k, wrong)
 				}
 			}
+		}
+	}
+}
+
+// A ring has room for M times K values, and is full of M less 1 times K at least; a queue never is.
+func TestRoom(t *testing.T) {
+	fullIn := func(from, to int) api.Call {
+		return api.Call{Kind: api.Put, Val: 9, From: from, To: to, Code: api.Full}
+	}
+	for i, h := range []struct {
+		calls  []api.Call
+		k, m   int
+		may    bool
+		spared bool // it may not, but that isn't told of values' lives alone
+	}{
+		{calls: []api.Call{putIn(1, 0, 1), fullIn(2, 3)}, k: 1, m: 2, may: true},
+		{calls: []api.Call{fullIn(0, 1)}, k: 1, m: 2},
+		{calls: []api.Call{putIn(1, 0, 2), fullIn(1, 3)}, k: 1, m: 2, may: true},
+		{calls: []api.Call{putIn(1, 0, 1), gotIn(1, 2, 3), fullIn(4, 5)}, k: 1, m: 2},
+		{calls: []api.Call{putIn(1, 0, 1), gotIn(1, 2, 4), fullIn(3, 5)}, k: 1, m: 2, may: true},
+		{calls: []api.Call{putIn(1, 0, 1), gotIn(1, 2, 5), putIn(2, 3, 6), fullIn(4, 7)}, k: 2, m: 2, may: true},
+		{calls: []api.Call{putIn(1, 0, 1), gotIn(1, 2, 6), emptyIn(3, 4), fullIn(5, 7)}, k: 1, m: 2, spared: true},
+		{calls: []api.Call{putIn(1, 0, 1), fullIn(2, 3)}, k: 1, m: 3},
+		{calls: []api.Call{putIn(1, 0, 1), fullIn(2, 3)}, k: 2, m: 2},
+		{calls: []api.Call{putIn(1, 0, 1), putIn(2, 2, 3), fullIn(4, 5)}, k: 2, m: 2, may: true},
+		{calls: []api.Call{putIn(1, 0, 1), putIn(2, 2, 3), fullIn(4, 5), putIn(3, 6, 7)}, k: 1, m: 3, may: true},
+		{calls: []api.Call{putIn(1, 0, 1), putIn(2, 2, 3)}, k: 1, m: 2, may: true},
+		{calls: []api.Call{putIn(1, 0, 1), putIn(2, 2, 3), putIn(3, 4, 5), gotIn(1, 6, 7)}, k: 1, m: 2},
+		{calls: []api.Call{putIn(1, 0, 1), putIn(2, 2, 3), putIn(3, 4, 6), gotIn(1, 5, 7)}, k: 1, m: 2, may: true},
+	} {
+		c := api.Config{Kind: api.Ring, K: h.k, M: h.m}
+		if Orderly(c, h.calls) != h.may {
+			t.Errorf("%d: %v", i, !h.may)
+		}
+		values, wrong := Lives(api.Trace{Calls: h.calls})
+		if wrong != "" {
+			t.Fatalf("%d: %s", i, wrong)
+		}
+		if s := Crowded(c, api.Trace{Calls: h.calls}, values); (s == "") != (h.may || h.spared) {
+			t.Errorf("%d: of the values: %q", i, s)
+		}
+		c.Kind = api.Queue
+		if full := func(call api.Call) bool { return call.Code == api.Full }; Orderly(c, h.calls) == slices.ContainsFunc(h.calls, full) {
+			t.Errorf("%d: of a queue", i)
 		}
 	}
 }
@@ -122,6 +169,22 @@ func TestDrained(t *testing.T) {
 		if Drained(c, x, values) == "" {
 			t.Errorf("words %d", i)
 		}
+	}
+}
+
+// A ring's trace that lost a value is told; segments it has none to lose.
+func TestDrainedRing(t *testing.T) {
+	c := api.Config{Kind: api.Ring, K: 1, T: 1, M: 3}
+	end := api.Mem{Limbo: make([]uint64, 3), Link: make([]uint64, 3), Next: make([]uint64, 3), Head: 1, Tail: 1}
+	x := api.Trace{Calls: []api.Call{putIn(1, 0, 1), gotIn(1, 2, 3), emptyIn(4, 5)}, End: end}
+	values, _ := Lives(x)
+	if s := Drained(c, x, values); s != "" {
+		t.Error(s)
+	}
+	x.Calls = slices.Delete(x.Calls, 1, 2)
+	values, _ = Lives(x)
+	if Drained(c, x, values) == "" {
+		t.Error("a value is lost")
 	}
 }
 

@@ -55,7 +55,7 @@ func Ahead(c api.Config, x api.Trace, values map[uint32]Life) (most int, wrong s
 		for _, v := range values {
 			switch got := values[call.Out]; {
 			case !v.surely(call.From, call.To):
-			case call.Code == api.Empty, c.Kind == api.Stack && v.PutFrom > got.PutTo, c.Kind == api.Queue && v.PutTo < got.PutFrom:
+			case call.Code == api.Empty, c.Kind == api.Stack && v.PutFrom > got.PutTo, c.Kind != api.Stack && v.PutTo < got.PutFrom:
 				n++
 			}
 		}
@@ -67,7 +67,26 @@ func Ahead(c api.Config, x api.Trace, values map[uint32]Life) (most int, wrong s
 	return most, ""
 }
 
-// Drained tells what is wrong with a trace of which all calls are over, the last one telling Empty: whether a value is lost, or a segment. "" is nothing.
+// Crowded tells what is wrong with the room that a ring's trace tells: Full, though there never were M less 1 times K values while the call was on, or more than M times K that were surely there behind a call. "" is nothing.
+func Crowded(c api.Config, x api.Trace, values map[uint32]Life) string {
+	for i, call := range x.Calls {
+		maybe, surely := 0, 0
+		for _, v := range values {
+			if v.PutFrom <= call.To && v.GotTo >= call.From {
+				maybe++
+			}
+			if v.surely(call.To+1, call.To) {
+				surely++
+			}
+		}
+		if call.Code == api.Full && maybe < (c.M-1)*c.K || surely > c.M*c.K {
+			return "the call " + strconv.Itoa(i) + ", of " + strconv.Itoa(maybe) + " values, " + strconv.Itoa(surely) + " of them surely"
+		}
+	}
+	return ""
+}
+
+// Drained tells what is wrong with a trace of which all calls are over, the last one telling Empty: whether a value is lost, or a segment (a ring has none that could be). "" is nothing.
 func Drained(c api.Config, x api.Trace, values map[uint32]Life) string {
 	if last := x.Calls[len(x.Calls)-1]; last.Code != api.Empty || last.To < 0 {
 		return "the last call isn't over, or tells something else than Empty"
@@ -76,6 +95,9 @@ func Drained(c api.Config, x api.Trace, values map[uint32]Life) string {
 		if v.PutTo != Never && v.GotTo == Never {
 			return strconv.FormatUint(uint64(val), 10) + " is lost"
 		}
+	}
+	if c.Kind == api.Ring {
+		return ""
 	}
 	l := slices.Concat(chained(x.End.Link, x.End.Free), chained(x.End.Next, x.End.Head))
 	for _, w := range x.End.Limbo {
